@@ -1,0 +1,1 @@
+"""Pointtally: counts of whole points, told for all sizes."""

@@ -1,0 +1,54 @@
+import importlib
+import inspect
+import unittest
+
+ERRORS = (
+    "TallyError", "NotGrid", "NotBounded", "NotFit", "NoPoint", "ByNought", "Singular", "NotDeed", "NotDone", "NotUndone",
+    "NotForm", "NotHall", "NotTally", "NotText", "NotSheet", "NotFormula", "NotPaper", "NotClaim", "NotNest", "NotNamed",
+    "NotBook", "TooMany",
+)
+FUNCTIONS = {
+    "forms": "is_form(value, m) need_form(value, m) form_value(form, t) form_sum(one, other) form_times(form, n) "
+             "put_in(form, forms, n) lowered(form)",
+    "formulas": "formula_breach(value, m) need_formula(value, m) formula_put_in(formula, forms, n) "
+                "lettered(formula, m, places, n) plain(formula) denied(formula) lowered_formula(formula) sizes(formula)",
+    "formtexts": "formula_text(formula, names) read_formula(text, names) room_text(k, d, names, formula) read_room(text)",
+    "halls": "hall_breach(value) need_hall(value) conditions(hall) in_hall(hall, p, x) hall_at(hall, p)",
+    "listing": "holds_within(formula, t, reach) listed(k, d, formula, p, low, high, reach)",
+    "fractions": "fraction(a, b) plus(f, g) minus(f, g) times(f, g) over(f, g) compare(f, g) floor_of(f) is_fraction(value)",
+    "matrices": "determinant(table) adjoint(table) times_row(row, table) times_column(table, column) "
+                "times_table(one, other) rank(rows) solved(table, column) parts_of(rays, w)",
+    "grids": "need_grid(value) whole_grid(m) size_of(grid) point_at(grid, y) place_in(grid, t) form_on(grid, form) "
+             "grid_of(vectors, s) grid_within(grid, inner) leading(grid, count) place_map(grid, inner) "
+             "divided_grid(m, n, form) meet(one, other) others(grid)",
+    "nearrows": "index_of(rays) near_row(rays) is_near_row(rays, value)",
+    "amounts": "compare_at(one, other, p) above_row(amount) round_up(amount) round_down(amount) amount_sum(one, other) "
+               "amount_times(amount, n)",
+    "addings": "summed(m, rows, factors) settled(m, rows) is_settled(m, rows, value) least(m, rows, f) "
+               "is_least(m, rows, f, value) follows(m, rows, row) bare(m, rows) flat(m, rows) inside(m, rows) "
+               "is_inside(m, rows, value)",
+    "rays": "ray_or_bounds(k, d, rows) is_ray_or_bounds(k, d, rows, value) box(k, d, rows, p)",
+    "pieces": "is_in(pieces, t) on_grid(piece, grid)",
+}
+
+
+class Interface(unittest.TestCase):
+    def test_functions(self):
+        for file, told in FUNCTIONS.items():
+            module = importlib.import_module("pointtally." + file)
+            for line in told.replace(") ", ")\n").split("\n"):
+                name = line.split("(")[0]
+                with self.subTest(line):
+                    function = getattr(module, name)
+                    self.assertTrue(inspect.isfunction(function))
+                    self.assertEqual(function.__module__, module.__name__)
+                    self.assertEqual(name + str(inspect.signature(function)), line)
+
+    def test_errors(self):
+        module = importlib.import_module("pointtally.errors")
+        for name in ERRORS:
+            self.assertEqual(getattr(module, name).__module__, module.__name__)
+
+
+if __name__ == "__main__":
+    unittest.main()
