@@ -120,10 +120,8 @@ def _take_in(columns, vector, size):
 def grid_of(vectors, s):
     """Return the grid of all s plus whole sums of the vectors."""
     m = len(s)
-    if m == 0:
-        return whole_grid(0)
-    size_so_far, part = swept(vectors)
-    if size_so_far < m:
+    found, part = swept(vectors)
+    if found < m:
         raise NotGrid()
     columns = [form_times(letter_form(i, m)[1:], abs(part)) for i in range(m)]
     for vector in vectors:

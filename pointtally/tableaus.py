@@ -19,9 +19,9 @@ def _least_of(entries, places):
 class Tableau:
     """What rows and a form are over the entries that are left free.
 
-    Entries are numbered: letters first, then the rows' values. By times the entry held[i] is lines[i][0]
-    plus the sum of lines[i][j + 1] times the entry free[j]; aim tells the form likewise. The entries of
-    lines are determinants of parts of the rows, so that dividing by the last by leaves no rest.
+    Entries are numbered: letters first, then the rows' values. The entry held[i], taken self.by times, is
+    lines[i][0] plus the sum of lines[i][j + 1] times the entry free[j]; aim tells the form likewise. What
+    stands in lines are determinants of parts of the rows, so that dividing by self.by leaves no rest.
     """
 
     def __init__(self, m, rows, f):
@@ -166,9 +166,9 @@ class Tableau:
         return tuple(told)
 
     def factors(self, line, own, many):
-        """Return (n, factors): the entries of a line as factors of the rows, own that of entry 0 alone.
+        """Return (n, factors): with the factors of as many rows, what the line tells comes n times.
 
-        own is the number of the held row that the line tells, -1 for the form.
+        own is the number of the row that the line tells, which gets a factor, too; -1 if it is the form.
         """
         told = [0] * many
         for j, entry in enumerate(self.free):

@@ -317,6 +317,10 @@ class Inside(unittest.TestCase):
         self.assertIs(is_inside(1, ((0, 1), (0, -1)), ("walls", (2, 2))), True)
         self.assertIs(is_inside(1, ((0, 1), (0, -1)), ("walls", (0, 0))), False)
         self.assertIs(is_inside(1, ((1, 1), (0, -1)), ("walls", (2, 2))), False)
+        self.assertIs(is_inside(1, ((1, 1), (0, -1)), ("walls", (1, 1))), False)
+        self.assertIs(is_inside(1, ((0, 1), (0, 1)), ("walls", (1, 1))), False)
+        self.assertIs(is_inside(2, ((0, 1, 0), (0, -1, 1)), ("walls", (1, 1))), False)
+        self.assertIs(is_inside(2, ((1, -1, 0), (0, 0, -1)), ("walls", (1, 1))), False)
         self.assertIs(is_inside(1, ((0, 0), (0, -1)), ("walls", (9, 0))), True)
 
     def test_spoiled(self):
