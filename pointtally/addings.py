@@ -31,7 +31,7 @@ def _is_point(m, rows, value):
     return all([value_at_fractions(row, value)[0] >= 0 for row in rows])
 
 
-def _are_empty_factors(m, rows, value):
+def are_empty_factors(m, rows, value):
     """Tell of any value whether it is factors by which the rows add up to something below 0."""
     if not are_counts(value, len(rows)):
         return False
@@ -52,7 +52,7 @@ def is_settled(m, rows, value):
     word = word_of(value, 2)
     if word == "point":
         return _is_point(m, rows, value[1])
-    return word == "factors" and _are_empty_factors(m, rows, value[1])
+    return word == "factors" and are_empty_factors(m, rows, value[1])
 
 
 def least(m, rows, f):
@@ -94,7 +94,7 @@ def is_least(m, rows, f, value):
         return _is_least_told(m, rows, f, value)
     if word_of(value, 3) == "falls":
         return _is_point(m, rows, value[1]) and _falls_along(m, rows, f, value[2])
-    return word_of(value, 2) == "empty" and _are_empty_factors(m, rows, value[1])
+    return word_of(value, 2) == "empty" and are_empty_factors(m, rows, value[1])
 
 
 def follows(m, rows, row):
@@ -109,6 +109,19 @@ def _bare_tableau(m, rows, f):
     tableau.hold_letters()
     tableau.drop_letters()
     return tableau
+
+
+def has_fractions(m, rows):
+    """Tell whether a system has a point."""
+    firsts = {}
+    for row in rows:
+        head = row[1:]
+        # Two rows whose heads are opposite often tell it at once.
+        other = firsts.get(tuple([-entry for entry in head]))
+        if (other is not None and row[0] + other < 0) or (row[0] < 0 and not any(head)):
+            return False
+        firsts[head] = min(row[0], firsts.get(head, row[0]))
+    return _bare_tableau(m, rows, (0,) * (m + 1)).settle() < 0
 
 
 def _with_point(m, rows):

@@ -80,13 +80,18 @@ def letter_form(i, n):
     return tuple([int(j == i + 1) for j in range(n + 1)])
 
 
-def put_in(form, forms, n):
+def led_form(form, forms, n):
     """Return the form over n letters that form becomes with forms for its letters."""
     total = [form[0]] + [0] * n
     for factor, inner in zip(form[1:], forms):
         if factor != 0:
             total = [a + factor * b for a, b in zip(total, inner)]
     return tuple(total)
+
+
+def put_in(form, forms, n):
+    """Return the form over n letters that form becomes with forms for its letters."""
+    return led_form(form, forms, n)
 
 
 def common_part(numbers):

@@ -191,6 +191,8 @@ def meet(one, other):
     if len(other[1]) != m:
         raise NotFit()
     table, s = other
+    if table == one[0]:
+        return one if s == one[1] else None
     forms, places = list(grid_forms(one)), []
     for i, row in enumerate(table):
         # What is left of entry i for the place number i: it must be divisible by the diagonal entry.

@@ -52,6 +52,24 @@ def adjoint(table):
     return tuple([tuple([_cofactor(table, j, i) for j in range(m)]) for i in range(m)])
 
 
+def inverted(table):
+    """Return (numbers, D): numbers divided by D is the inverse of a table, D the absolute value of its determinant."""
+    m = len(table)
+    rows = [[*row, *[int(i == j) for j in range(m)]] for i, row in enumerate(table)]
+    last = 1
+    for column in range(m):
+        places = [i for i in range(column, m) if rows[i][column] != 0]
+        if len(places) == 0:
+            raise Singular()
+        lead = rows.pop(places[0])
+        rows = [_cleared(row, lead, column, last) for row in rows]
+        rows.insert(column, lead)
+        last = lead[column]
+    # What is left of the table is the determinant times the unit table, but for a sign for rows that moved.
+    sign = 1 if last > 0 else -1
+    return (tuple([tuple([sign * entry for entry in row[m:]]) for row in rows]), sign * last)
+
+
 def turned(rows, width):
     """Return the columns of some rows, of which each has this width, as rows."""
     return tuple([tuple([row[j] for row in rows]) for j in range(width)])

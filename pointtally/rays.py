@@ -5,6 +5,7 @@ from pointtally.errors import NotBounded
 from pointtally.forms import are_counts, are_numbers, form_times, is_number, letter_form, product_sum, word_of
 from pointtally.fractions import floor_of
 from pointtally.halls import hall_at
+from pointtally.matrices import rank
 
 
 def _headed(k, rows):
@@ -25,6 +26,15 @@ def ray_or_bounds(k, d, rows):
             pair.append(told[3:])
         bounds.append(tuple(pair))
     return ("bounds", tuple(bounds))
+
+
+def has_ray(k, d, rows):
+    """Tell whether the hall has a ray."""
+    heads = _headed(k, rows)
+    if rank([head[1:] for head in heads]) < d:
+        return True
+    # With full rank some head grows along each ray, and none falls.
+    return least(d, heads, form_times(summed(d, heads, (1,) * len(heads)), -1))[0] == "falls"
 
 
 def _is_ray(d, heads, value):

@@ -1,0 +1,105 @@
+"""What a cone of the index 1 adds: the coefficient at s ** 0 of its series at z = 1 + s."""
+
+from pointtally.errors import NotFit
+from pointtally.forms import form_plus, letter_form, product_sum
+from pointtally.polys import (
+    form_lot, letter_exponents, lot_of, lot_sum, lot_times, number_lot, poly_of, put_form, put_lots,
+)
+from pointtally.series import binom_numbers, constant_of
+
+
+def number_poly(ms, j, e):
+    """Return the POLY over j letters that comes of constant_of(ms) with e, a POLY over them, for its letter."""
+    terms, by = lot_of(e)
+    form = (terms.get((0,) * j, 0), *[terms.get(letter_exponents(i, j), 0) for i in range(j)])
+    return poly_of(_number_lot(ms, (form, by), {}))
+
+
+def _number_lot(ms, e, known):
+    """Return the lot that comes of constant_of(ms) with e, a form and what it is divided by, for its letter.
+
+    known keeps what was worked out.
+    """
+    key = tuple(sorted(ms))
+    if key not in known:
+        known[key] = lot_of(constant_of(key))
+    form, by = e
+    return put_form(known[key], form, by, known)
+
+
+def products_with(lam, rays):
+    """Return the products of a direction with rays; raise NotFit if one is 0."""
+    products = [product_sum(lam, ray) for ray in rays]
+    if 0 in products:
+        raise NotFit()
+    return products
+
+
+def start_form(k, products):
+    """Return the form over k + d letters whose value is the exponent of the first point: that nearest to all ends."""
+    # From s + 1 on the first n is s + 1, up to s it is s.
+    return (sum([m for m in products if m < 0]), *[0] * k, *products)
+
+
+def _opened(k, rays, products, weight):
+    """Return the lot over k + d + d letters: weight at the x that lies r_j steps behind the first one along ray j."""
+    d = len(rays)
+    wide = k + 2 * d
+    lots = [form_lot(letter_form(i, wide)) for i in range(k)]
+    for place in range(d):
+        form = [0] * (wide + 1)
+        for j, (ray, m) in enumerate(zip(rays, products)):
+            form[0] += ray[place] if m < 0 else 0
+            form[1 + k + j] = ray[place]
+            form[1 + k + d + j] = ray[place] if m < 0 else -ray[place]
+        lots.append(form_lot(tuple(form)))
+    return put_lots(weight, lots, wide)
+
+
+def _by_binoms(opened, count):
+    """Return for each tuple i the lot of what stands at the product of all binom(r_j, i_j); r are the last letters."""
+    terms, by = opened
+    found = {}
+    for exponents, number in terms.items():
+        front, back = exponents[:len(exponents) - count], exponents[len(exponents) - count:]
+        ways = [((), number)]
+        for exponent in back:
+            numbers = binom_numbers(exponent)
+            ways = [((*told, i), old * factor) for told, old in ways for i, factor in enumerate(numbers) if factor != 0]
+        for told, entry in ways:
+            lot = found.setdefault(told, {})
+            lot[front] = lot.get(front, 0) + entry
+    return {told: (lot, by) for told, lot in found.items()}
+
+
+def leaf_lot(letters, rays, products, weight, e, known):
+    """Return the lot over some letters that a cone of the index 1 adds.
+
+    letters are lots that stand for the parameters of weight and for s_1 .. s_d, e is a pair of a form over the
+    same letters as these and what it is divided by, which tells the exponent of the first point; weight is a lot
+    over the parameters and x, or None for 1.
+    """
+    if weight is None:
+        return _number_lot([abs(m) for m in products], e, known)
+    form, by = e
+    j = len(form) - 1
+    k = len(letters) - len(rays)
+    total = number_lot(0, 1, j)
+    parts = _by_binoms(_opened(k, rays, products, weight), len(rays))
+    for told in sorted(parts):
+        ms, back = [], 0
+        for i, m in zip(told, products):
+            ms += [abs(m)] * (i + 1)
+            back += i * abs(m)
+        inner = _number_lot(ms, (form_plus(form, -back * by), by), known)
+        total = lot_sum(total, lot_times(put_lots(parts[told], letters, j), inner))
+    return total
+
+
+def leaf_sum(k, rays, lam, weight):
+    """Return the POLY over the parameters and s_1 .. s_d that a cone of the index 1 adds."""
+    products = products_with(lam, rays)
+    wide = k + len(rays)
+    letters = [form_lot(letter_form(i, wide)) for i in range(wide)]
+    lot = None if weight is None else lot_of(weight)
+    return poly_of(leaf_lot(letters, rays, products, lot, (start_form(k, products), 1), {}))

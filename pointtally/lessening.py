@@ -1,0 +1,126 @@
+"""Pieces with and less other pieces, and the plain pieces of a formula."""
+
+from pointtally.addings import has_fractions
+from pointtally.falling import children
+from pointtally.forms import form_plus, form_times, letter_form, lowered
+from pointtally.grids import divided_grid, meet, whole_grid
+from pointtally.neighbours import Neighbours, left_by, neighbours_of, sums_table
+from pointtally.pieces import led_rows, made_rows, on_grid
+
+
+def has_room(piece):
+    """Tell whether some fractions keep the rows of a piece."""
+    (k, d, rows), _ = piece
+    return has_fractions(k + d, rows)
+
+
+def kept_pieces(pieces):
+    """Return the list of those pieces whose rows some fractions keep; None is no piece."""
+    return [piece for piece in pieces if piece is not None and has_room(piece)]
+
+
+def _shared(one, other):
+    """Return (grid, rows of one, rows of other) on the meet of both grids, None if they do not meet."""
+    (_, _, rows), grid = one
+    (_, _, other_rows), other_grid = other
+    if grid == other_grid:
+        return (grid, rows, other_rows)
+    inner = meet(grid, other_grid)
+    if inner is None:
+        return None
+    return (inner, led_rows(rows, grid, inner), led_rows(other_rows, other_grid, inner))
+
+
+def with_piece(one, other):
+    """Return the piece with the points of both, None if the grids do not meet or no fractions keep its rows."""
+    told = _shared(one, other)
+    if told is None:
+        return None
+    grid, rows, other_rows = told
+    piece = ((*one[0][:2], made_rows((*rows, *other_rows))), grid)
+    return piece if has_room(piece) else None
+
+
+def _beside_parts(piece, grid):
+    """Return the parts of a piece, apart from one another, that are on no point of a grid."""
+    table, s = grid
+    own, start = piece[1]
+    m = len(s)
+    told = []
+    for i, row in enumerate(table):
+        wide = (*table[:i + 1], *[letter_form(j, m)[1:] for j in range(i + 1, m)])
+        # Most of these grids do not meet that of the piece, which their starts tell at once.
+        both = sums_table(own, wide) if row[i] > 1 else own
+        left = left_by(both, start)
+        for step in range(1, row[i]):
+            beside = (*s[:i], (s[i] + step) % row[i], *[0] * (m - i - 1))
+            if left_by(both, beside) == left:
+                told.append(on_grid(piece, (wide, beside)))
+    return told
+
+
+def parted(piece, other):
+    """Return the parts of a piece that lie outside the other one, apart from one another."""
+    told = _shared(piece, other)
+    if told is None:
+        return [piece]
+    grid, rows, other_rows = told
+    room = piece[0][:2]
+    if not has_room(((*room, made_rows((*rows, *other_rows))), grid)):
+        return [piece]
+    parts = _beside_parts(piece, other[1]) if grid != piece[1] else []
+    for i, row in enumerate(other_rows):
+        denied = form_plus(form_times(row, -1), -1)
+        parts.append(((*room, made_rows((*rows, *other_rows[:i], denied))), grid))
+    return kept_pieces(parts)
+
+
+def less(pieces, others):
+    """Return the list of the parts of the pieces that lie outside all others, which are kept as neighbours."""
+    return [part for piece in pieces for part in others.parts_outside(piece, parted)]
+
+
+def _put_all(kept, pieces):
+    """Take pieces in among those that are kept as neighbours."""
+    for piece in pieces:
+        kept.put(piece)
+
+
+def _joint(one, other):
+    """Return the list of pieces i WITH pieces j, by (i, j)."""
+    told = [with_piece(piece, inner) for piece in one for inner in other]
+    return [piece for piece in told if piece is not None]
+
+
+def room_piece(k, d):
+    """Return the piece with all points."""
+    return ((k, d, ()), whole_grid(k + d))
+
+
+def plain_list(k, d, formula):
+    """Return the list of the plain pieces of a formula."""
+    word = formula[0]
+    whole = room_piece(k, d)
+    if word == "row":
+        return kept_pieces([((k, d, (lowered(formula[1]),)), whole[1])])
+    if word == "divides":
+        grid = divided_grid(k + d, formula[1], formula[2])
+        return [] if grid is None else [((k, d, ()), grid)]
+    if word == "some":
+        return _gathered([kept_pieces(children(piece)) for piece in plain_list(k, d + 1, formula[1])])
+    if word == "not":
+        return less([whole], neighbours_of(plain_list(k, d, formula[1])))
+    if word == "or":
+        return _gathered([plain_list(k, d, inner) for inner in formula[1:]])
+    found = [whole]
+    for inner in formula[1:]:
+        found = _joint(found, plain_list(k, d, inner))
+    return found
+
+
+def _gathered(lots):
+    """Return the list of the pieces of some lots, those of each lot less those of earlier ones."""
+    kept = Neighbours()
+    for lot in lots:
+        _put_all(kept, less(lot, kept))
+    return list(kept.pieces)

@@ -1,0 +1,196 @@
+"""Polynomials over some letters: sums, products, and other polynomials put in for letters.
+
+Inside, a LOT is a pair (terms, by): terms a dict of integers by exponents, each of which stands divided by by.
+"""
+
+from math import comb, lcm
+
+from pointtally.forms import are_counts, common_part
+from pointtally.fractions import fraction, is_fraction
+
+
+def is_poly(j, value):
+    """Tell of any value whether it is a POLY over j letters."""
+    if not isinstance(value, tuple):
+        return False
+    last = None
+    for pair in value:
+        if not isinstance(pair, tuple) or len(pair) != 2 or not is_fraction(pair[0]) or not are_counts(pair[1], j):
+            return False
+        if pair[0][0] == 0 or (last is not None and pair[1] <= last):
+            return False
+        last = pair[1]
+    return True
+
+
+def lot_of(poly):
+    """Return the lot of a POLY."""
+    by = 1
+    for (_, b), _ in poly:
+        by = lcm(by, b)
+    return ({exponents: a * (by // b) for (a, b), exponents in poly}, by)
+
+
+def poly_of(lot):
+    """Return the POLY of a lot."""
+    terms, by = lot
+    found = []
+    for exponents in sorted(terms):
+        if terms[exponents] != 0:
+            found.append((fraction(terms[exponents], by), exponents))
+    return tuple(found)
+
+
+def number_lot(number, by, j):
+    """Return the lot over j letters that is number / by everywhere."""
+    return ({(0,) * j: number}, by)
+
+
+def letter_exponents(i, j):
+    """Return the exponents of letter number i of j letters."""
+    return tuple([int(place == i) for place in range(j)])
+
+
+def form_lot(form, by=1):
+    """Return the lot of a form, divided by a number."""
+    j = len(form) - 1
+    terms = {}
+    if form[0] != 0:
+        terms[(0,) * j] = form[0]
+    for i, entry in enumerate(form[1:]):
+        if entry != 0:
+            terms[letter_exponents(i, j)] = entry
+    return (terms, by)
+
+
+def lot_sum(one, other):
+    """Return the sum of two lots."""
+    (terms, by), (others, other_by) = one, other
+    size = lcm(by, other_by)
+    n, n_other = size // by, size // other_by
+    total = {exponents: n * number for exponents, number in terms.items()}
+    for exponents, number in others.items():
+        total[exponents] = total.get(exponents, 0) + n_other * number
+    return (total, size)
+
+
+def lots_sum(lots):
+    """Return the sum of some lots."""
+    size = 1
+    for _, by in lots:
+        size = lcm(size, by)
+    total = {}
+    for terms, by in lots:
+        for exponents, number in terms.items():
+            total[exponents] = total.get(exponents, 0) + size // by * number
+    return (total, size)
+
+
+def lot_scaled(lot, number, by):
+    """Return the lot times number / by, by from 1 on."""
+    terms, old = lot
+    return ({exponents: number * entry for exponents, entry in terms.items()}, old * by)
+
+
+def lot_times(one, other):
+    """Return the product of two lots."""
+    (terms, by), (others, other_by) = one, other
+    total = {}
+    for exponents, number in terms.items():
+        if number != 0:
+            for more, factor in others.items():
+                at = tuple([a + b for a, b in zip(exponents, more)])
+                total[at] = total.get(at, 0) + number * factor
+    return (total, by * other_by)
+
+
+def short_lot(lot):
+    """Return the lot without terms of 0 and without a common part."""
+    terms, by = lot
+    part = common_part([by, *list(terms.values())])
+    return ({exponents: number // part for exponents, number in terms.items() if number != 0}, by // part)
+
+
+def put_lots(lot, lots, j):
+    """Return the lot over j letters that comes of a lot if lots over j letters stand for its letters."""
+    terms, by = lot
+    told = _put([(exponents, number) for exponents, number in terms.items() if number != 0], lots, 0, j)
+    return short_lot((told[0], told[1] * by))
+
+
+def _put(items, lots, at, j):
+    """Return what items, pairs of exponents and a number, come to, letters ahead of number at being left out."""
+    if at == len(lots) or len(items) == 0:
+        return number_lot(sum([number for _, number in items]), 1, j)
+    groups = {}
+    for exponents, number in items:
+        groups.setdefault(exponents[at], []).append((exponents, number))
+    total = number_lot(0, 1, j)
+    for exponent in range(max(list(groups)), -1, -1):
+        if any(list(total[0].values())):
+            total = lot_times(total, lots[at])
+        if exponent in groups:
+            total = lot_sum(total, _put(groups[exponent], lots, at + 1, j))
+    return short_lot(total)
+
+
+def _ways_to_take(j, most):
+    """Return pairs (exponents over j letters, multinomial of these) by their sum, for each sum up to most."""
+    told = [[((), 1)]] + [[] for _ in range(most)]
+    for _ in range(j):
+        wider = [[] for _ in range(most + 1)]
+        for size, ways in enumerate(told):
+            for more in range(most + 1 - size):
+                factor = comb(size + more, more)
+                wider[size + more] += [((*exponents, more), number * factor) for exponents, number in ways]
+        told = wider
+    return told
+
+
+def put_form(lot, form, by, known):
+    """Return the lot that comes of a lot over one letter with a form, divided by a number, for this letter.
+
+    known keeps what hangs on the sizes alone.
+    """
+    terms, size = lot
+    top = max([0, *[exponents[0] for exponents in list(terms)]])
+    numbers = [terms.get((exponent,), 0) for exponent in range(top + 1)]
+    for exponent in range(top, -1, -1):
+        for other in range(exponent):
+            numbers[other] = numbers[other] * by
+        size = size * by if exponent > 0 else size
+    key = ("ways", len(form) - 1, top)
+    if key not in known:
+        known[key] = _ways_to_take(len(form) - 1, top)
+    found = {}
+    for taken, ways in enumerate(known[key]):
+        # What is left of the letter's powers if so many factors are letters of the form.
+        rest = 0
+        for exponent in range(top, taken - 1, -1):
+            rest = rest * form[0] + comb(exponent, taken) * numbers[exponent]
+        if rest != 0:
+            _add_products(found, ways, form[1:], rest)
+    return short_lot((found, size))
+
+
+def _add_products(found, ways, entries, rest):
+    """Put into found, for each way, the number times rest times the entries to the power of its exponents."""
+    for exponents, number in ways:
+        number = number * rest
+        for entry, exponent in zip(entries, exponents):
+            for _ in range(exponent):
+                number = number * entry
+        if number != 0:
+            found[exponents] = number
+
+
+def poly_value(poly, numbers):
+    """Return the value of a POLY at whole numbers, as a fraction."""
+    terms, by = lot_of(poly)
+    total = 0
+    for exponents, number in terms.items():
+        for letter, exponent in zip(numbers, exponents):
+            for _ in range(exponent):
+                number = number * letter
+        total += number
+    return fraction(total, by)
