@@ -29,6 +29,29 @@ FUNCTIONS = {
                "is_inside(m, rows, value)",
     "rays": "ray_or_bounds(k, d, rows) is_ray_or_bounds(k, d, rows, value) box(k, d, rows, p)",
     "pieces": "is_in(pieces, t) on_grid(piece, grid)",
+    "falling": "children(piece) empty_paper(piece) is_empty_paper(piece, value)",
+    "sets": "common(one, other) taken_out(one, other) joined(one, other) fallen(pieces, count) is_apart(pieces) "
+            "pieces_of(k, d, formula) plain_pieces(k, d, formula) formula_paper(k, d, formula) "
+            "is_formula_paper(k, d, formula, value) has_point(pieces) first_point(pieces) is_within(one, other) "
+            "is_same(one, other) parting(one, other) is_finite_set(pieces) need_finite_set(pieces) points_at(pieces, p, most)",
+    "corners": "bases(hall) corner(hall, basis) feasible_rows(hall, basis) is_feasible(hall, basis, p) corners_at(hall, p)",
+    "edges": "edges(hall, basis) all_edges(hall)",
+    "directions": "is_direction(value, d, vectors) direction(d, vectors) uphill(lam, vectors) cover(hall, p, x, lam) "
+                  "highest(hall, p, lam) uphill_counts(hall, p, lam)",
+    "cones": "replaced(rays, i, w) holds(rays, lam, apex, x)",
+    "trees": "is_tree(rays, value) tree_of(rays) leaves(rays, tree) tree_rays(rays, tree) leaves_hold(rays, tree, lam, apex, x)",
+    "halltallies": "hall_paper(hall) is_hall_paper(hall, value) leaf_parts(hall, paper) tally_by(hall, paper, weight=None) "
+                   "hall_tally(hall, weight=None) hall_count(hall, p)",
+    "series": "at_one(ms) constant_of(ms) binoms(poly) of_binoms(row)",
+    "steppolys": "is_plain(j, value) is_step_poly(k, value) value_at(k, sp, p) normal(k, sp) plus(k, one, other) "
+                 "times(k, one, other) scaled(k, sp, fraction) raised(k, sp, e) put_in(k, j, sp, forms) on_class(k, sp, N, rest)",
+    "periods": "alike_steps(k, one, other) least_period(k, sp)",
+    "leaves": "number_poly(ms, j, e) leaf_sum(k, rays, lam, weight)",
+    "tallies": "tally_breach(value, k) need_tally(value, k) value(tally, p) added(one, other) less(one, other) "
+               "times(one, other) scaled(tally, fraction) constant(fraction) kept(tally, rows, gates) "
+               "put_in_tally(tally, forms, n) tidied(tally)",
+    "counting": "is_finite(k, d, formula) tally_of(k, d, formula) weighted_of(k, d, formula, weight) count_at(k, d, formula, p)",
+    "summing": "summed(tally, k, many)",
 }
 
 

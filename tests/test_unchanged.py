@@ -4,7 +4,8 @@ import copy
 import unittest
 
 from pointtally import (
-    addings, amounts, formtexts, formulas, forms, fractions, grids, halls, listing, matrices, nearrows, pieces, rays,
+    addings, amounts, cones, corners, counting, directions, edges, falling, formtexts, formulas, forms, fractions, grids, halls,
+    halltallies, leaves, listing, matrices, nearrows, periods, pieces, rays, series, sets, steppolys, summing, tallies, trees,
 )
 
 FORMULA = ("some", ("and", ("row", (4, 2, -2)), ("not", ("divides", 3, (1, 7, 1))), ("or", ("some", ("row", (0, 1, 1, 1))))))
@@ -13,6 +14,21 @@ INNER = (((2, 0), (0, 2)), (1, 0))
 HALL = (1, 1, ((0, 0, 2), (9, 1, -3), (4, 2, 0)))
 ROWS = ((0, 1, 0), (0, 0, 1), (4, -1, 0), (3, 0, -1), (9, -1, -1))
 AMOUNT = ((5, 1), (0, -2, 3), 4)
+SET = ((HALL, GRID), ((1, 1, ((3, 1, 1), (4, -1, -1), (5, 0, 1), (5, 0, -1))), grids.whole_grid(2)))
+BOXED = ("and", ("row", (0, 0, 1)), ("row", (9, 1, -2)), ("or", ("not", ("divides", 3, (1, 7, 1))), ("some", ("and", *[
+    ("row", form) for form in ((0, 0, 1, -3), (1, 0, -1, 3))]))))
+PIECE = (((0, 2, ((0, -1, 2), (7, 1, 0), (5, 1, -3), (9, -1, 0)))), grids.whole_grid(2))
+EMPTY = ((0, 1, ((-1, 3), (2, -3))), grids.whole_grid(1))
+TRIANGLE = (1, 2, ((0, 0, 3, 0), (0, 0, 0, 1), (0, 1, -2, -5)))
+LAM = directions.direction(2, edges.all_edges(TRIANGLE))
+CONE = ((3, 1), (1, -4))
+TREE = trees.tree_of(CONE)
+APEX = (((1,), (0, 2), 3), ((-2,), (1,), 2))
+PAPER = halltallies.hall_paper(TRIANGLE)
+STEPS = (((3, (5, 7)), (2, (0, 1))), (((1, 2), (0, 1)), ((-2, 3), (2, 1))))
+OTHER = (((3, (1, 1)), (1, (4, 0))), (((1, 1), (1, 1)),))
+WEIGHT = (((1, 2), (0, 1, 2)), ((3, 1), (1, 0, 0)))
+TALLY = ((((0, 1), (9, -1)), ((2, (1, 3)),), *STEPS), (((0, 1), (7, -1)), (), *OTHER))
 LISTS = ([1, [2]], ["row", [0]], ("row", [0, 1]), ("and", ["or"]), (1, 1, [(0, 0, 0)]), ([(1,)], [0]), ("point", [(0, 1)]),
          ("factors", [0]), ("bounds", [((1, [0]), (1, [0]))]), {"a": [1]}, ("least", (0, 1), [], 1, []))
 CALLS = (
@@ -40,12 +56,40 @@ CALLS = (
     (addings.bare, 2, ROWS), (addings.flat, 2, ROWS), (addings.inside, 2, ROWS), (addings.inside, 2, ROWS + ((0, -1, 0),)),
     (rays.ray_or_bounds, 0, 2, ROWS), (rays.ray_or_bounds, 0, 2, ROWS[1:3]), (rays.box, 1, 1, ((0, 0, 2), (9, 1, -3)), (2,)),
     (pieces.is_in, ((HALL, GRID),), (3, 0)), (pieces.on_grid, (HALL, GRID), INNER),
+    (falling.children, PIECE), (falling.empty_paper, EMPTY), (falling.is_empty_paper, EMPTY, falling.empty_paper(EMPTY)),
+    (sets.common, SET, SET[1:]), (sets.taken_out, SET, SET[:1]), (sets.joined, SET, SET), (sets.fallen, SET, 1), (sets.is_apart, SET),
+    (sets.pieces_of, 1, 1, BOXED), (sets.plain_pieces, 1, 1, BOXED), (sets.formula_paper, 1, 1, BOXED),
+    (sets.formula_paper, 0, 1, ("and", ("row", (-1, 3)), ("row", (2, -3)))), (sets.has_point, SET), (sets.first_point, SET),
+    (sets.is_within, SET, SET[1:]), (sets.is_same, SET, SET[::-1]), (sets.parting, SET, SET[1:]), (sets.is_finite_set, SET),
+    (sets.need_finite_set, SET[1:]), (sets.points_at, SET[1:], (1,), 50),
+    (corners.bases, TRIANGLE), (corners.corner, TRIANGLE, (0, 2)), (corners.feasible_rows, TRIANGLE, (0, 2)),
+    (corners.is_feasible, TRIANGLE, (0, 2), (5,)), (corners.corners_at, TRIANGLE, (5,)), (edges.edges, TRIANGLE, (1, 2)),
+    (edges.all_edges, TRIANGLE), (directions.direction, 2, CONE), (directions.uphill, (1, 3), CONE),
+    (directions.cover, TRIANGLE, (9,), (1, 1), LAM), (directions.highest, TRIANGLE, (9,), LAM),
+    (directions.uphill_counts, TRIANGLE, (9,), LAM), (cones.replaced, CONE, 1, (4, 4)), (cones.holds, CONE, (2, 9), APEX, (3, 1)),
+    (trees.tree_of, CONE), (trees.leaves, CONE, TREE), (trees.tree_rays, CONE, TREE),
+    (trees.leaves_hold, CONE, TREE, directions.direction(2, trees.tree_rays(CONE, TREE)), APEX, (3, 1)),
+    (halltallies.hall_paper, TRIANGLE), (halltallies.leaf_parts, TRIANGLE, PAPER), (halltallies.tally_by, TRIANGLE, PAPER, WEIGHT),
+    (halltallies.hall_tally, TRIANGLE), (halltallies.hall_tally, TRIANGLE, WEIGHT), (halltallies.hall_count, TRIANGLE, (10 ** 40,)),
+    (series.at_one, (3, 1, 2)), (series.constant_of, (3, 1)), (series.binoms, (((1, 2), (1,)), ((3, 1), (4,)))),
+    (series.of_binoms, ((1, 2), (0, 1), (5, 3))), (steppolys.value_at, 1, STEPS, (7,)), (steppolys.normal, 1, STEPS),
+    (steppolys.plus, 1, STEPS, OTHER), (steppolys.times, 1, STEPS, OTHER), (steppolys.scaled, 1, STEPS, (2, 3)),
+    (steppolys.raised, 1, STEPS, 2), (steppolys.put_in, 1, 2, STEPS, ((1, 2, 3),)), (steppolys.on_class, 1, STEPS, 6, (5,)),
+    (periods.alike_steps, 1, STEPS, OTHER), (periods.least_period, 1, STEPS), (leaves.number_poly, (3, 1), 1, (((1, 2), (1,)),)),
+    (leaves.leaf_sum, 1, ((1, 0), (2, 1)), (1, 5), WEIGHT), (tallies.value, TALLY, (7,)), (tallies.added, TALLY, TALLY),
+    (tallies.less, TALLY, TALLY), (tallies.times, TALLY, TALLY), (tallies.scaled, TALLY, (2, 3)), (tallies.constant, (2, 3)),
+    (tallies.kept, TALLY, ((5, -1),), ((3, (0, 1)),)), (tallies.put_in_tally, TALLY, ((1, 2, 3),), 2), (tallies.tidied, TALLY),
+    (counting.is_finite, 1, 1, BOXED), (counting.tally_of, 1, 1, BOXED), (counting.weighted_of, 1, 1, BOXED, (((1, 2), (1, 1)),)),
+    (counting.count_at, 1, 1, BOXED, (10 ** 40,)), (summing.summed, TALLY, 1, 1),
 )
 ANY_VALUE = (
     (forms.is_form, (), (1,)), (formulas.formula_breach, (), (1,)), (halls.hall_breach, (), ()), (fractions.is_fraction, (), ()),
     (nearrows.is_near_row, (((2, 1), (1, 3)),), ()), (addings.is_settled, (1, ((0, 1),)), ()),
     (addings.is_least, (1, ((0, 1),), (0, 2)), ()), (addings.is_inside, (1, ((0, 1),)), ()),
-    (rays.is_ray_or_bounds, (0, 1, ((0, 1),)), ()),
+    (rays.is_ray_or_bounds, (0, 1, ((0, 1),)), ()), (falling.is_empty_paper, (EMPTY,), ()),
+    (sets.is_formula_paper, (0, 1, ("row", (-1, 0))), ()), (directions.is_direction, (), (2, CONE)), (trees.is_tree, (CONE,), ()),
+    (halltallies.is_hall_paper, (TRIANGLE,), ()), (steppolys.is_plain, (2,), ()), (steppolys.is_step_poly, (1,), ()),
+    (tallies.tally_breach, (), (1,)),
 )
 
 
@@ -78,7 +122,7 @@ class Unchanged(unittest.TestCase):
         from tests.test_interface import FUNCTIONS
         called = {function.__name__ for function, *_ in (*CALLS, *ANY_VALUE)}
         told = {line.split("(")[0] for text in FUNCTIONS.values() for line in text.replace(") ", ")\n").split("\n")}
-        self.assertEqual(told - called, {"need_form", "need_formula", "need_hall", "minus", "times", "over", "compare", "whole_grid"})
+        self.assertEqual(told - called, {"need_form", "need_formula", "need_hall", "minus", "over", "compare", "whole_grid", "need_tally"})
 
 
 if __name__ == "__main__":
