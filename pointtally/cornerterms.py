@@ -11,7 +11,7 @@ from pointtally.fractions import fraction, plus
 from pointtally.grids import leading
 from pointtally.leaves import leaf_lot, start_form
 from pointtally.matrices import times_column
-from pointtally.polys import form_lot, lot_of, lot_scaled
+from pointtally.polys import lot_of, lot_scaled
 from pointtally.series import constant_of
 from pointtally.steppolys import normal_letters, without_idle
 from pointtally.terms import gates_of_grid, led_by_places, places_of_grid
@@ -101,11 +101,9 @@ def _term(frame, cone, way, weight, known):
     start, front, behind = start_form(0, products), forms[:len(own)], forms[len(own):]
     by, led = led_by_places(offset, frame.places, k)
     e = form_sum(form_times(led_form(start, behind, j), by), led_form(led, front, j))
-    lots = []
-    if weight is not None:
-        lots = [form_lot(led_form(form, front, j), own_by) for own_by, form in frame.places]
-    lots += [form_lot(form) for form in behind]
-    lot = leaf_lot(lots, rays, products, weight, (e, by), known)
+    told = [(led_form(form, front, j), own_by) for own_by, form in frame.places] if weight is not None else []
+    told += [(form, 1) for form in behind]
+    lot = leaf_lot(told, rays, products, weight, (e, by), known)
     poly = without_idle(letters, lot_scaled(lot, _turned_sign(number, products), 1))
     return (frame.led_rows(conditions), frame.gates, *poly)
 

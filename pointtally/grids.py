@@ -198,13 +198,16 @@ def meet(one, other):
         # What is left of entry i for the place number i: it must be divisible by the diagonal entry.
         left = form_plus(forms[i], -s[i])
         for entry, place in zip(row, places):
-            left = form_sum(left, form_times(place, -entry))
-        inner = divided_grid(m, row[i], left)
-        if inner is None:
-            return None
-        forms = [form_on(inner, form) for form in forms]
-        places = [form_on(inner, place) for place in places]
-        places.append(tuple([entry // row[i] for entry in form_on(inner, left)]))
+            if entry != 0:
+                left = form_sum(left, form_times(place, -entry))
+        if row[i] > 1:
+            inner = divided_grid(m, row[i], left)
+            if inner is None:
+                return None
+            forms = [form_on(inner, form) for form in forms]
+            places = [form_on(inner, place) for place in places]
+            left = tuple([entry // row[i] for entry in form_on(inner, left)])
+        places.append(left)
     return _grid_by(forms)
 
 

@@ -12,7 +12,7 @@ from pointtally.grids import whole_grid
 from pointtally.halls import conditions, hall_at
 from pointtally.leaves import leaf_sum
 from pointtally.matrices import inverted, turned
-from pointtally.polys import lot_of, lot_scaled, poly_of
+from pointtally.polys import lot_of
 from pointtally.rays import has_ray
 from pointtally.shadows import tidied_piece
 from pointtally.tallies import tidied
@@ -107,8 +107,8 @@ def tally_by(hall, paper, weight=None):
     own = tuple([(1, letter_form(i, k)) for i in range(k)])
     told = []
     for rows, sign, rays, steps in leaf_parts(hall, paper):
-        lot = lot_of(leaf_sum(k, rays, paper[0], weight))
-        told.append((rows, (), (*own, *steps), poly_of(lot_scaled(lot, sign, 1))))
+        poly = leaf_sum(k, rays, paper[0], weight)
+        told.append((rows, (), (*own, *steps), tuple([((sign * a, b), exponents) for (a, b), exponents in poly])))
     return tuple(told)
 
 

@@ -1,9 +1,9 @@
 """What a cone of the index 1 adds: the coefficient at s ** 0 of its series at z = 1 + s."""
 
 from pointtally.errors import NotFit
-from pointtally.forms import form_plus, letter_form, product_sum
+from pointtally.forms import form_plus, form_sum, form_times, letter_form, product_sum
 from pointtally.polys import (
-    form_lot, letter_exponents, lot_of, lot_sum, lot_times, number_lot, poly_of, put_form, put_lots,
+    form_lot, letter_exponents, lot_of, lot_times, lots_sum, number_lot, poly_of, put_form, put_lots, short_lot,
 )
 from pointtally.series import binom_numbers, constant_of
 
@@ -41,65 +41,76 @@ def start_form(k, products):
     return (sum([m for m in products if m < 0]), *[0] * k, *products)
 
 
-def _opened(k, rays, products, weight):
-    """Return the lot over k + d + d letters: weight at the x that lies r_j steps behind the first one along ray j."""
+def _opened(letters, rays, products, weight, j):
+    """Return the lot over j + d letters: weight at the x that lies r_i steps behind the first one along each ray i.
+
+    letters are as leaf_lot tells them; the r_i are the last letters.
+    """
     d = len(rays)
-    wide = k + 2 * d
-    lots = [form_lot(letter_form(i, wide)) for i in range(k)]
+    k = len(letters) - d
+    lots = [form_lot((*form, *[0] * d), by) for form, by in letters[:k]]
     for place in range(d):
-        form = [0] * (wide + 1)
-        for j, (ray, m) in enumerate(zip(rays, products)):
-            form[0] += ray[place] if m < 0 else 0
-            form[1 + k + j] = ray[place]
-            form[1 + k + d + j] = ray[place] if m < 0 else -ray[place]
-        lots.append(form_lot(tuple(form)))
-    return put_lots(weight, lots, wide)
+        total, steps = (0,) * (j + 1), []
+        for ray, m, (form, _) in zip(rays, products, letters[k:]):
+            entry = ray[place]
+            total = form_sum(total, form_times(form, entry))
+            if m < 0:
+                total = form_plus(total, entry)
+            steps.append(entry if m < 0 else -entry)
+        lots.append(form_lot((*total, *steps)))
+    return put_lots(weight, lots, j + d)
 
 
 def _by_binoms(opened, count):
     """Return for each tuple i the lot of what stands at the product of all binom(r_j, i_j); r are the last letters."""
     terms, by = opened
-    found = {}
+    known, found = {}, {}
     for exponents, number in terms.items():
         front, back = exponents[:len(exponents) - count], exponents[len(exponents) - count:]
-        ways = [((), number)]
-        for exponent in back:
-            numbers = binom_numbers(exponent)
-            ways = [((*told, i), old * factor) for told, old in ways for i, factor in enumerate(numbers) if factor != 0]
-        for told, entry in ways:
+        if back not in known:
+            known[back] = _binom_ways(back)
+        for told, factor in known[back]:
             lot = found.setdefault(told, {})
-            lot[front] = lot.get(front, 0) + entry
+            lot[front] = lot.get(front, 0) + number * factor
     return {told: (lot, by) for told, lot in found.items()}
+
+
+def _binom_ways(exponents):
+    """Return pairs (i, number): with the numbers, the products of all binom(r_j, i_j) add up to a product of powers."""
+    ways = [((), 1)]
+    for exponent in exponents:
+        numbers = binom_numbers(exponent)
+        ways = [((*told, i), old * factor) for told, old in ways for i, factor in enumerate(numbers) if factor != 0]
+    return ways
 
 
 def leaf_lot(letters, rays, products, weight, e, known):
     """Return the lot over some letters that a cone of the index 1 adds.
 
-    letters are lots that stand for the parameters of weight and for s_1 .. s_d, e is a pair of a form over the
-    same letters as these and what it is divided by, which tells the exponent of the first point; weight is a lot
-    over the parameters and x, or None for 1.
+    letters are pairs of a form over these and what it is divided by, that stand for the parameters of weight and
+    for s_1 .. s_d; e is such a pair that tells the exponent of the first point; weight is a lot over the
+    parameters and x, or None for 1.
     """
     if weight is None:
         return _number_lot([abs(m) for m in products], e, known)
     form, by = e
     j = len(form) - 1
-    k = len(letters) - len(rays)
-    total = number_lot(0, 1, j)
-    parts = _by_binoms(_opened(k, rays, products, weight), len(rays))
+    lots = []
+    parts = _by_binoms(_opened(letters, rays, products, weight, j), len(rays))
     for told in sorted(parts):
         ms, back = [], 0
         for i, m in zip(told, products):
             ms += [abs(m)] * (i + 1)
             back += i * abs(m)
         inner = _number_lot(ms, (form_plus(form, -back * by), by), known)
-        total = lot_sum(total, lot_times(put_lots(parts[told], letters, j), inner))
-    return total
+        lots.append(lot_times(parts[told], inner))
+    return short_lot(lots_sum(lots)) if lots else number_lot(0, 1, j)
 
 
 def leaf_sum(k, rays, lam, weight):
     """Return the POLY over the parameters and s_1 .. s_d that a cone of the index 1 adds."""
     products = products_with(lam, rays)
     wide = k + len(rays)
-    letters = [form_lot(letter_form(i, wide)) for i in range(wide)]
+    letters = [(letter_form(i, wide), 1) for i in range(wide)]
     lot = None if weight is None else lot_of(weight)
     return poly_of(leaf_lot(letters, rays, products, lot, (start_form(k, products), 1), {}))

@@ -3,7 +3,7 @@
 from pointtally.addings import has_fractions
 from pointtally.falling import children
 from pointtally.forms import form_plus, form_times, letter_form, lowered
-from pointtally.grids import divided_grid, meet, whole_grid
+from pointtally.grids import divided_grid, meet, size_of, whole_grid
 from pointtally.neighbours import Neighbours, left_by, neighbours_of, sums_table
 from pointtally.pieces import led_rows, made_rows, on_grid
 
@@ -80,12 +80,6 @@ def less(pieces, others):
     return [part for piece in pieces for part in others.parts_outside(piece, parted)]
 
 
-def _put_all(kept, pieces):
-    """Take pieces in among those that are kept as neighbours."""
-    for piece in pieces:
-        kept.put(piece)
-
-
 def _joint(one, other):
     """Return the list of pieces i WITH pieces j, by (i, j)."""
     told = [with_piece(piece, inner) for piece in one for inner in other]
@@ -97,6 +91,26 @@ def room_piece(k, d):
     return ((k, d, ()), whole_grid(k + d))
 
 
+def _is_room(piece):
+    """Tell whether a piece can be seen to have all points, so that nothing is left of others less it."""
+    (k, d, rows), grid = piece
+    return size_of(grid) == 1 and not any([any(row[1:]) for row in rows])
+
+
+class Gathering:
+    """Takes lots of pieces in, those of each lot less those of earlier ones."""
+
+    def __init__(self):
+        self.kept = Neighbours()
+        self.is_full = False
+
+    def take(self, lot):
+        """Take a lot in."""
+        for piece in less(lot, self.kept):
+            self.kept.put(piece)
+            self.is_full = self.is_full or _is_room(piece)
+
+
 def plain_list(k, d, formula):
     """Return the list of the plain pieces of a formula."""
     word = formula[0]
@@ -106,21 +120,16 @@ def plain_list(k, d, formula):
     if word == "divides":
         grid = divided_grid(k + d, formula[1], formula[2])
         return [] if grid is None else [((k, d, ()), grid)]
-    if word == "some":
-        return _gathered([kept_pieces(children(piece)) for piece in plain_list(k, d + 1, formula[1])])
     if word == "not":
         return less([whole], neighbours_of(plain_list(k, d, formula[1])))
-    if word == "or":
-        return _gathered([plain_list(k, d, inner) for inner in formula[1:]])
-    found = [whole]
-    for inner in formula[1:]:
-        found = _joint(found, plain_list(k, d, inner))
-    return found
-
-
-def _gathered(lots):
-    """Return the list of the pieces of some lots, those of each lot less those of earlier ones."""
-    kept = Neighbours()
-    for lot in lots:
-        _put_all(kept, less(lot, kept))
-    return list(kept.pieces)
+    if word == "and":
+        found = [whole]
+        for inner in formula[1:]:
+            found = _joint(found, plain_list(k, d, inner)) if found else []
+        return found
+    gathering = Gathering()
+    sons = plain_list(k, d + 1, formula[1]) if word == "some" else formula[1:]
+    for son in sons:
+        if not gathering.is_full:
+            gathering.take(kept_pieces(children(son)) if word == "some" else plain_list(k, d, son))
+    return list(gathering.kept.pieces)

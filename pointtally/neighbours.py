@@ -38,7 +38,7 @@ class Neighbours:
         self.pieces.append(piece)
         table, start = piece[1]
         self.places.setdefault(table, []).append(place)
-        for both, left in self.known.get(table, {}).values():
+        for both, left in list(self.known.get(table, {}).values()):
             left.setdefault(left_by(both, start), []).append(place)
 
     def told_for(self, table, own):

@@ -35,6 +35,8 @@ def made_rows(rows):
 
 def led_rows(rows, grid, inner):
     """Return rows over the letters of grid as rows over those of inner, which grid holds."""
+    if grid == inner:
+        return rows
     table, start = place_map(grid, inner)
     forms = [(entry, *row) for entry, row in zip(start, table)]
     return tuple([put_in(row, forms, len(start)) for row in rows])

@@ -134,17 +134,25 @@ def _put(items, lots, at, j):
     return short_lot(total)
 
 
-def _ways_to_take(j, most):
-    """Return pairs (exponents over j letters, multinomial of these) by their sum, for each sum up to most."""
+def _ways_to_take(own, j, most):
+    """Return by their sum up to most: triples (exponents of own letters, their multinomial, exponents of all j)."""
     told = [[((), 1)]] + [[] for _ in range(most)]
-    for _ in range(j):
+    for _ in own:
         wider = [[] for _ in range(most + 1)]
         for size, ways in enumerate(told):
             for more in range(most + 1 - size):
                 factor = comb(size + more, more)
                 wider[size + more] += [((*exponents, more), number * factor) for exponents, number in ways]
         told = wider
-    return told
+    return [[(exponents, number, _spread(exponents, own, j)) for exponents, number in ways] for ways in told]
+
+
+def _spread(exponents, own, j):
+    """Return the exponents of j letters, of which those in own places have the given ones and the others 0."""
+    wide = [0] * j
+    for place, exponent in zip(own, exponents):
+        wide[place] = exponent
+    return tuple(wide)
 
 
 def put_form(lot, form, by, known):
@@ -159,9 +167,10 @@ def put_form(lot, form, by, known):
         for other in range(exponent):
             numbers[other] = numbers[other] * by
         size = size * by if exponent > 0 else size
-    key = ("ways", len(form) - 1, top)
+    own = tuple([i for i, entry in enumerate(form[1:]) if entry != 0])
+    key = ("ways", own, len(form) - 1, top)
     if key not in known:
-        known[key] = _ways_to_take(len(form) - 1, top)
+        known[key] = _ways_to_take(own, len(form) - 1, top)
     found = {}
     for taken, ways in enumerate(known[key]):
         # What is left of the letter's powers if so many factors are letters of the form.
@@ -169,19 +178,21 @@ def put_form(lot, form, by, known):
         for exponent in range(top, taken - 1, -1):
             rest = rest * form[0] + comb(exponent, taken) * numbers[exponent]
         if rest != 0:
-            _add_products(found, ways, form[1:], rest)
+            _add_products(found, ways, [form[i + 1] for i in own], rest, taken)
     return short_lot((found, size))
 
 
-def _add_products(found, ways, entries, rest):
-    """Put into found, for each way, the number times rest times the entries to the power of its exponents."""
-    for exponents, number in ways:
+def _add_products(found, ways, entries, rest, taken):
+    """Put into found, for each way to take so many, the number times rest times the entries' powers."""
+    powers = [[1] for _ in entries]
+    for line, entry in zip(powers, entries):
+        for _ in range(taken):
+            line.append(line[-1] * entry)
+    for exponents, number, wide in ways:
         number = number * rest
-        for entry, exponent in zip(entries, exponents):
-            for _ in range(exponent):
-                number = number * entry
-        if number != 0:
-            found[exponents] = number
+        for line, exponent in zip(powers, exponents):
+            number = number * line[exponent]
+        found[wide] = number
 
 
 def poly_value(poly, numbers):

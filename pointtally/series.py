@@ -3,7 +3,7 @@
 from math import comb, factorial
 
 from pointtally.fractions import fraction, plus, times
-from pointtally.polys import lot_sum, poly_of
+from pointtally.polys import lots_sum, poly_of
 
 
 def _products(one, other, length):
@@ -19,9 +19,8 @@ def at_one(ms):
     """Return the fractions c_0, .., c_r of s ** r divided by the product of all 1 - z ** -m, at z = 1 + s."""
     length = len(ms) + 1
     # s / (1 - z ** -m) is z ** m divided by what (z ** m - 1) / s comes to.
-    above, below = [1] + [0] * len(ms), [1] + [0] * len(ms)
+    above, below = [comb(sum(ms), i) for i in range(length)], [1] + [0] * len(ms)
     for m in ms:
-        above = _products(above, [comb(m, i) for i in range(length)], length)
         below = _products(below, [comb(m, i + 1) for i in range(length)], length)
     return tuple(_divided(above, below))
 
@@ -83,8 +82,7 @@ def binoms(poly):
 
 def of_binoms(row):
     """Return the POLY over e that is the sum of row[i] * binom(e, i)."""
-    total = ({}, 1)
-    for i, (falling, (a, b)) in enumerate(zip(_falling_powers(max(1, len(row))), row)):
-        terms = {(exponent,): a * number for exponent, number in enumerate(falling)}
-        total = lot_sum(total, (terms, b * factorial(i)))
-    return poly_of(total)
+    lots = []
+    for i, (falling, (a, b)) in enumerate(zip(_falling_powers(len(row)), row)):
+        lots.append(({(exponent,): a * number for exponent, number in enumerate(falling)}, b * factorial(i)))
+    return poly_of(lots_sum(lots))

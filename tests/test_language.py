@@ -192,6 +192,10 @@ class Language(unittest.TestCase):
                 if isinstance(node, ast.Call):
                     with self.subTest(path.name, line=node.lineno):
                         self.assertIsInstance(node.func, (ast.Name, ast.Attribute))
+                        starred = [arg for arg in node.args if isinstance(arg, ast.Starred)]
+                        self.assertTrue(all(isinstance(arg.value, ast.Name) for arg in starred))
+                        if starred:
+                            self.assertIs(starred[0], node.args[-1])
                         if isinstance(node.func, ast.Attribute):
                             self.assertIn(node.func.attr, METHODS | own)
                         if isinstance(node.func, ast.Name) and node.func.id in BUILTINS:
