@@ -4,7 +4,7 @@ from pointtally.addings import has_fractions
 from pointtally.cornerterms import Frame, terms_of
 from pointtally.errors import NotBounded
 from pointtally.forms import form_plus, form_sum, form_times, led_form, letter_form
-from pointtally.grids import divided_grid, form_on, grid_forms, grid_within
+from pointtally.grids import divided_grid, form_on, grid_forms, grid_within, meet, size_of, whole_grid
 from pointtally.polys import form_lot, lot_of, lot_times, poly_of, put_lots
 from pointtally.rays import has_ray
 from pointtally.searching import whole_point
@@ -14,6 +14,7 @@ from pointtally.tallies import tidied
 from pointtally.terms import grid_of_gates
 
 FEW = 36
+MANY = 240
 
 
 class Case:
@@ -79,12 +80,25 @@ def _first_case(k, many, rows, gates, steps):
     return Case((k - many, many), led, grid, told)
 
 
+def _joint_size(case):
+    """Return how many classes there are on which all rests are forms divided by numbers."""
+    m = len(case.grid[1])
+    grid = whole_grid(m)
+    for n, form in case.rests():
+        # Forms without a constant are divisible at 0, so that these grids always meet.
+        grid = meet(grid, divided_grid(m, n, (0, *form[1:])))
+    return size_of(grid)
+
+
 def _classes(case):
     """Return cases in whose classes few numbers are left by rests, with the rests that are of too many numbers."""
+    # The fewer letters are summed over, the less a class costs beside a letter more.
+    size = _joint_size(case)
+    most = max(FEW, size) if size * case.room[1] <= MANY else FEW
     waiting, found = [(case, 1)], []
     while waiting:
         told, many = waiting.pop()
-        small = [rest for rest in told.rests() if many * rest[0] <= FEW]
+        small = [rest for rest in told.rests() if many * rest[0] <= most]
         if len(small) == 0:
             found.append(told)
         else:
