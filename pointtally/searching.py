@@ -35,9 +35,8 @@ def span(m, rows, form):
     return tuple(ends)
 
 
-def _turned_letters(forms, i, j):
-    """Return what letters i and j are of two new ones, so that the form (c, a at i, b at j) loses letter j."""
-    a, b = forms
+def _turned_letters(a, b):
+    """Return what two letters are by two new ones, so that a times one plus b times the other hangs on the first."""
     part, x, y = bezout(a, b)
     return (x, -b // part), (y, a // part)
 
@@ -50,7 +49,7 @@ def echelon(m, rows):
         told = list(put_in(row, letters, m))
         for j in range(done + 1, m):
             if told[j + 1] != 0:
-                one, other = _turned_letters((told[done + 1], told[j + 1]), done, j)
+                one, other = _turned_letters(told[done + 1], told[j + 1])
                 told[done + 1], told[j + 1] = told[done + 1] * one[0] + told[j + 1] * other[0], 0
                 letters = [_mixed(form, done + 1, j + 1, (one, other)) for form in letters]
         if done < m and told[done + 1] != 0:

@@ -103,6 +103,14 @@ def is_poly(value, j):
     return type(value) is tuple
 
 
+def binom(e, i):
+    """Return e (e - 1) .. (e - i + 1) divided by 1 * 2 * .. * i."""
+    total = Fraction(1)
+    for n in range(i):
+        total = total * (e - n) / (n + 1)
+    return total
+
+
 def random_poly(rng, j, degree, many=3, high=4):
     """Return a random POLY over j letters of at most this degree."""
     told = {}

@@ -6,7 +6,7 @@ from itertools import product
 from pointtally.errors import NotFit
 from pointtally.leaves import leaf_sum, number_poly
 from pointtally.series import constant_of
-from tests.oracles import is_poly, poly_at, random_poly
+from tests.oracles import binom, is_poly, poly_at, random_poly
 from tests.tools import leibniz
 
 def one_over(k, d):
@@ -43,13 +43,6 @@ def one_ray(m, s, a, length):
         row = [(lowest + i) * row[i] + (lowest + i + 1) * row[i + 1] for i in range(len(row) - 1)]
         row = [entry / m for entry in row]
     return lowest, row
-
-
-def binom(e, i):
-    total = Fraction(1)
-    for n in range(i):
-        total = total * (e - n) / (n + 1)
-    return total
 
 
 class NumberPoly(unittest.TestCase):

@@ -4,14 +4,7 @@ from fractions import Fraction
 from math import comb
 
 from pointtally.series import at_one, binoms, constant_of, of_binoms
-from tests.oracles import is_poly, pair, poly_at, random_poly
-
-
-def binom(e, i):
-    total = Fraction(1)
-    for n in range(i):
-        total = total * (e - n) / (n + 1)
-    return total
+from tests.oracles import binom, is_poly, pair, poly_at, random_poly
 
 
 class Series(unittest.TestCase):
