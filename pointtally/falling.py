@@ -1,6 +1,6 @@
 """The last letter of a piece falls away; papers that show that a piece has no point."""
 
-from pointtally.addings import are_empty_factors, settled
+from pointtally.addings import are_empty_factors, has_fractions, settled
 from pointtally.forms import form_plus, form_sum, form_times, word_of
 from pointtally.grids import divided_grid, grid_within, leading, meet
 from pointtally.pieces import led_rows, made_rows
@@ -51,26 +51,45 @@ def ways_ahead(bounds, own, sign):
 
 def children(piece):
     """Return the pieces without the last letter, one for each way in which its bounds stand."""
+    return tuple(_told_children(piece, False))
+
+
+def kept_children(piece):
+    """Return the list of those children whose rows some fractions keep."""
+    return _told_children(piece, True)
+
+
+def _told_children(piece, is_kept):
+    """Return the list of the children, or of those alone whose rows some fractions keep."""
     (k, d, rows), grid = piece
     room = smaller_room(k, d)
+    m = k + d - 1
     others, lowers, uppers = split_rows(rows)
-    front = leading(grid, k + d - 1)
+    front = leading(grid, m)
     if len(lowers) == 0 or len(uppers) == 0:
-        return (((*room, tuple(others)), front),)
+        return [((*room, tuple(others)), front)] if not is_kept or has_fractions(m, others) else []
     told = []
-    highs = [_upper_ways(k + d - 1, uppers, j) for j in range(len(uppers))]
+    highs = [_upper_ways(m, uppers, j) for j in range(len(uppers))]
     for i in range(len(lowers)):
-        lows = _lower_ways(k + d - 1, lowers, i)
+        lows = _lower_ways(m, lowers, i)
         for j in range(len(uppers)):
             ahead = [*others, *ways_ahead(lowers, i, 1), *ways_ahead(uppers, j, -1)]
-            for lower, one in lows:
-                for upper, other in highs[j]:
-                    inner = meet(one, other)
-                    if inner is not None:
-                        own = grid_within(front, inner)
-                        made = made_rows(led_rows((*ahead, form_between(lower, upper)), front, own))
-                        told.append(((*room, made), own))
-    return tuple(told)
+            # Without rests the rows hold wherever they do with some, so that all ways may fail at once.
+            if not is_kept or has_fractions(m, (*ahead, form_between(lowers[i], uppers[j]))):
+                for one in lows:
+                    for other in highs[j]:
+                        told.append(_child(room, front, ahead, (one, other)))
+    return [child for child in told if child is not None and (not is_kept or has_fractions(m, child[0][2]))]
+
+
+def _child(room, front, ahead, ways):
+    """Return the child whose bounds leave rests as ways tell, None if no whole letters do."""
+    (lower, one), (upper, other) = ways
+    inner = meet(one, other)
+    if inner is None:
+        return None
+    own = grid_within(front, inner)
+    return ((*room, made_rows(led_rows((*ahead, form_between(lower, upper)), front, own))), own)
 
 
 def _lower_ways(m, lowers, i):

@@ -1,10 +1,10 @@
 """Pieces with and less other pieces, and the plain pieces of a formula."""
 
 from pointtally.addings import has_fractions
-from pointtally.falling import children
+from pointtally.falling import kept_children
 from pointtally.forms import form_plus, form_times, letter_form, lowered
 from pointtally.grids import divided_grid, meet, size_of, whole_grid
-from pointtally.neighbours import Neighbours, left_by, neighbours_of, sums_table
+from pointtally.neighbours import Neighbours, neighbours_of, sums_table
 from pointtally.pieces import led_rows, made_rows, on_grid
 
 
@@ -41,6 +41,22 @@ def with_piece(one, other):
     return piece if has_room(piece) else None
 
 
+def _meeting_steps(both, start, s, i, size):
+    """Return the list of the steps from 1 to size - 1 that, added to entry i of s modulo size, let two grids meet.
+
+    The one grid has the start, the other one the entries of s up to i, unit rows behind; both is the table of
+    all sums of the columns of both grids' tables.
+    """
+    left = [*[entry - own for entry, own in zip(start[:i], s)], *start[i:]]
+    for j in range(i):
+        if left[j] % both[j][j] != 0:
+            return []
+        times = left[j] // both[j][j]
+        left = [entry - times * row[j] for entry, row in zip(left, both)]
+    first = (left[i] - s[i]) % both[i][i]
+    return list(range(first if first > 0 else both[i][i], size, both[i][i]))
+
+
 def _beside_parts(piece, grid):
     """Return the parts of a piece, apart from one another, that are on no point of a grid."""
     table, s = grid
@@ -48,13 +64,10 @@ def _beside_parts(piece, grid):
     m = len(s)
     told = []
     for i, row in enumerate(table):
-        wide = (*table[:i + 1], *[letter_form(j, m)[1:] for j in range(i + 1, m)])
-        # Most of these grids do not meet that of the piece, which their starts tell at once.
-        both = sums_table(own, wide) if row[i] > 1 else own
-        left = left_by(both, start)
-        for step in range(1, row[i]):
-            beside = (*s[:i], (s[i] + step) % row[i], *[0] * (m - i - 1))
-            if left_by(both, beside) == left:
+        if row[i] > 1:
+            wide = (*table[:i + 1], *[letter_form(j, m)[1:] for j in range(i + 1, m)])
+            for step in _meeting_steps(sums_table(own, wide), start, s, i, row[i]):
+                beside = (*s[:i], (s[i] + step) % row[i], *[0] * (m - i - 1))
                 told.append(on_grid(piece, (wide, beside)))
     return told
 
@@ -131,5 +144,5 @@ def plain_list(k, d, formula):
     sons = plain_list(k, d + 1, formula[1]) if word == "some" else formula[1:]
     for son in sons:
         if not gathering.is_full:
-            gathering.take(kept_pieces(children(son)) if word == "some" else plain_list(k, d, son))
+            gathering.take(kept_children(son) if word == "some" else plain_list(k, d, son))
     return list(gathering.kept.pieces)
