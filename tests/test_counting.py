@@ -170,6 +170,30 @@ class Counts(unittest.TestCase):
             self.assertEqual(count_at(0, 4, formula, ()), there)
             self.assertEqual(tally_at(tally_of(0, 4, formula), ()), there)
 
+    def test_endless_without_points(self):
+        # A prism over a triangle that holds no whole point goes on along a slanted line, one way or both ways.
+        prism = [("row", (f, a, b, -3 * a - 5 * b)) for f, a, b in ((-1, 3, 0), (-1, 0, 3), (4, -3, -3))]
+        box = [("row", (3, *[sign * (i == j) for i in range(3)])) for j in range(3) for sign in (1, -1)]
+        for formula in (("and", *prism), ("and", *prism, ("row", (0, 0, 0, 1)))):
+            self.assertIs(is_finite(0, 3, formula), True)
+            self.assertEqual((count_at(0, 3, formula, ()), tally_at(tally_of(0, 3, formula), ())), (0, 0))
+            both = ("or", formula, ("and", *box, ("row", (1, 1, 1, -2))))
+            there = len(listed(0, 3, both, (), -3, 3, 0))
+            self.assertEqual((count_at(0, 3, both, ()), tally_at(tally_of(0, 3, both), ())), (there, there))
+
+    def test_more_rows(self):
+        # More rows than the document lets, as formulas that are made of others may have.
+        rng = random.Random(627)
+        for k, d, many in ((1, 2, 16), (0, 2, 20), (1, 1, 15)):
+            atoms = [("row", tuple(rng.randint(-4, 4) for _ in range(k + d + 1))) for _ in range(many)]
+            box = [("row", (5, *[0] * k, *[sign * (i == j) for i in range(d)])) for j in range(d) for sign in (1, -1)]
+            parts = [("and", atoms[i], ("not", atoms[i + 1]), ("or", atoms[(i + 3) % many], atoms[(i + 5) % many])) for i in range(0, many - 1, 2)]
+            formula = ("and", *box, ("or", *parts))
+            tally = tally_of(k, d, formula)
+            for p in ([()] if k == 0 else [(-7,), (0,), (3,)]):
+                there = len(listed(k, d, formula, p, -5, 5, 0))
+                self.assertEqual((count_at(k, d, formula, p), tally_at(tally, p)), (there, there))
+
     def test_overlaps(self):
         # Ands, ors and nots of the same rows and divisibilities: what is counted twice is taken away again.
         rng = random.Random(626)
