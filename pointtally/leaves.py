@@ -3,7 +3,8 @@
 from pointtally.errors import NotFit
 from pointtally.forms import form_plus, form_sum, form_times, letter_form, product_sum
 from pointtally.polys import (
-    form_lot, letter_exponents, lot_of, lot_times, lots_sum, number_lot, poly_of, put_form, put_lots, short_lot,
+    form_lot, letter_exponents, lot_of, lot_scaled, lot_times, lots_sum, number_lot, poly_of, put_form, put_lots,
+    short_lot,
 )
 from pointtally.series import binom_numbers, constant_of
 
@@ -20,11 +21,16 @@ def _number_lot(ms, e, known):
 
     known keeps what was worked out.
     """
+    form, by = e
+    return put_form(_number_terms(ms, known), form, by, known)
+
+
+def _number_terms(ms, known):
+    """Return the lot of constant_of(ms); known keeps it."""
     key = tuple(sorted(ms))
     if key not in known:
         known[key] = lot_of(constant_of(key))
-    form, by = e
-    return put_form(known[key], form, by, known)
+    return known[key]
 
 
 def products_with(lam, rays):
@@ -95,16 +101,37 @@ def leaf_lot(letters, rays, products, weight, e, known):
         return _number_lot([abs(m) for m in products], e, known)
     form, by = e
     j = len(form) - 1
-    lots = []
-    parts = _by_binoms(_opened(letters, rays, products, weight, j), len(rays))
-    for told in sorted(parts):
+    lines = []
+    for told, part in _by_binoms(_opened(letters, rays, products, weight, j), len(rays)).items():
         ms, back = [], 0
         for i, m in zip(told, products):
             ms += [abs(m)] * (i + 1)
             back += i * abs(m)
-        inner = _number_lot(ms, (form_plus(form, -back * by), by), known)
-        lots.append(lot_times(parts[told], inner))
-    return short_lot(lots_sum(lots)) if lots else number_lot(0, 1, j)
+        _add_multiples(lines, part, _number_row(ms, back, known))
+    total = number_lot(0, 1, j)
+    for line in lines[::-1]:
+        total = short_lot(lots_sum([lot_times(total, form_lot(form, by)), *line]))
+    return total
+
+
+def _number_row(ms, back, known):
+    """Return (numbers, size): constant_of(ms) at e - back, by powers of e, each number divided by size."""
+    terms, size = _number_terms(ms, known)
+    numbers = []
+    for exponent in range(len(ms), -1, -1):
+        numbers = [low - back * high for low, high in zip([0, *numbers], [*numbers, 0])]
+        numbers[0] += terms.get((exponent,), 0)
+    return (numbers, size)
+
+
+def _add_multiples(lines, part, row):
+    """Append to the lots of each power of e what a lot times a row of numbers adds there."""
+    numbers, size = row
+    for i, number in enumerate(numbers):
+        if i == len(lines):
+            lines.append([])
+        if number != 0:
+            lines[i].append(lot_scaled(part, number, size))
 
 
 def leaf_sum(k, rays, lam, weight):
