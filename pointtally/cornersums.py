@@ -90,7 +90,7 @@ def _ways(k, rows, signs, table):
     return found
 
 
-def _walls_step(walls, point):
+def _steps_below(walls, point):
     """Return the steps (D, form) that tell the greatest integers below the walls' values at a corner."""
     steps = []
     for wall in walls:
@@ -140,5 +140,5 @@ def _corner_cones(hall, basis, told, known):
     found = []
     for conditions, number in _ways(k, (*fixed, *others), signs, bent):
         for sign, walls, rays in unit_cones(tuple([primitive(head) for head in heads]), known):
-            found.append((conditions, sign * number, rays, _walls_step(walls, point)))
+            found.append((conditions, sign * number, rays, _steps_below(walls, point)))
     return found

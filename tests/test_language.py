@@ -34,6 +34,7 @@ BARRED_WORDS = re.compile(
     r"\b(type|typing|typing_extensions|enum|Enum|IntEnum|StrEnum|Flag|IntFlag|Generic|Protocol|ABC|ABCMeta|namedtuple|NamedTuple|"
     r"TypedDict|TYPE_CHECKING|abstractmethod|_wall|_WallAttr)\b|dataclass|overload|contextmanager"
 )
+BARRED_STARTS = re.compile(r"_(pe|dcw|enum|cm|twin_re|lay|law|stub)_|_sre|_WallAttr|_(cold|tuplegetter|outside|record|written_out|member_names)[0-9_]*$")
 ITERATORS = {"zip", "enumerate", "reversed", "range"}
 TAKES_ITERATORS = {"list", "tuple", "dict", "sorted", "sum", "any", "all", "enumerate", "zip", "min", "max"}
 
@@ -56,6 +57,28 @@ def bound_in(function):
     names = {arg.arg for arg in function.args.args + function.args.kwonlyargs}
     names |= {node.id for node in ast.walk(function) if isinstance(node, ast.Name) and isinstance(node.ctx, ast.Store)}
     return names | {node.name for node in ast.walk(function) if isinstance(node, ast.ExceptHandler) and node.name}
+
+
+def names_in(tree):
+    """Yield pairs (name, whether it is an attribute or a method) of all names that stand in a file."""
+    methods = {part for node in ast.walk(tree) if isinstance(node, ast.ClassDef) for part in node.body}
+    for node in ast.walk(tree):
+        if isinstance(node, ast.Name):
+            yield node.id, False
+        elif isinstance(node, (ast.FunctionDef, ast.ClassDef)):
+            yield node.name, node in methods
+        elif isinstance(node, (ast.arg, ast.keyword)) and node.arg:
+            yield node.arg, False
+        elif isinstance(node, ast.Attribute):
+            yield node.attr, True
+        elif isinstance(node, ast.alias):
+            yield node.name, False
+            yield node.asname or "", False
+        elif isinstance(node, ast.ImportFrom):
+            for part in node.module.split("."):
+                yield part, False
+        elif isinstance(node, ast.ExceptHandler):
+            yield node.name or "", False
 
 
 def docstrings(tree):
@@ -184,6 +207,21 @@ class Language(unittest.TestCase):
                         self.assertIn(node.id, BUILTINS, path.name)
                     if node.id == "_":
                         self.assertIsInstance(node.ctx, ast.Store, path.name)
+
+    def test_barred_starts(self):
+        for path, tree in trees():
+            for name, is_attribute in [(path.stem, False), *names_in(tree)]:
+                self.assertIsNone(BARRED_STARTS.match(name), f"{path.name}: {name}")
+                self.assertTrue(is_attribute or not name.startswith("_wall"), f"{path.name}: {name}")
+            self.assertNotRegex(path.read_text(encoding="utf-8"), r"\b(_wall|_WallAttr)\b", path.name)
+
+    def test_barred_starts_are_found(self):
+        for code, found in (("def _walls_step(): pass", 1), ("class A:\n def _walls(self): self._wall_up = 1", 0), ("_record = 1", 1),
+                            ("_record_2_ = 1", 1), ("_records = 1", 0), ("def f(_law_a): pass", 1), ("a._cm_b = 1", 1), ("_sreb = 1", 1),
+                            ("f(_pe_a=1)", 1), ("from a import _stub_b", 1), ("_enumerated = 1", 0), ("_outside__9 = 1", 1), ("_law = 1", 0)):
+            told = names_in(ast.parse(code))
+            wrong = [name for name, free in told if BARRED_STARTS.match(name) or (name.startswith("_wall") and not free)]
+            self.assertEqual(len(wrong), found, code)
 
     def test_calls(self):
         own = {function.name for _, tree in trees() for function in functions_of(tree)}
