@@ -8,13 +8,13 @@ from pointtally.cornersums import block_corners
 from pointtally.directions import is_direction
 from pointtally.forms import form_sum, form_times, form_value, led_form, letter_form, product_sum
 from pointtally.fractions import fraction, plus
-from pointtally.grids import leading
+from pointtally.frames import Frame
 from pointtally.leaves import leaf_lot, start_form
 from pointtally.matrices import times_column
 from pointtally.polys import lot_of, lot_scaled
 from pointtally.series import constant_of
 from pointtally.steppolys import normal_letters, without_idle
-from pointtally.terms import gates_of_grid, led_by_places, places_of_grid
+from pointtally.terms import led_by_places
 
 GROWS = 3
 
@@ -65,28 +65,6 @@ def _turned_sign(number, products):
         if m > 0:
             number = -number
     return number
-
-
-class Frame:
-    """Tells what stands over a grid's letters over the parameters of points instead."""
-
-    def __init__(self, k, grid):
-        self.k = k
-        front = leading(grid, k)
-        self.places = places_of_grid(front)
-        self.gates = gates_of_grid(front)
-
-    def led_rows(self, forms):
-        """Return forms that are from 0 on where the given ones are."""
-        return tuple([led_by_places(form, self.places, self.k)[1] for form in forms])
-
-    def led_steps(self, steps):
-        """Return steps with the same values."""
-        told = []
-        for n, form in steps:
-            by, led = led_by_places(form, self.places, self.k)
-            told.append((n * by, led))
-        return told
 
 
 def _term(frame, cone, way, weight, known):

@@ -153,14 +153,25 @@ def _block_of(piece, mix):
 
 def _split_blocks(piece, mix):
     """Return blocks with their grids that count a mix on a piece, as pieces apart from one another."""
+    return [((*hall, (), [number]), grid) for number, (hall, grid) in _split_mix(piece, mix)]
+
+
+def _split_mix(piece, mix):
+    """Return pairs (number, piece) that count a mix on a piece, for each formula as pieces apart from one another."""
     k, d, _ = piece[0]
     found = []
     for number, formula in mix:
-        for part, _ in split(piece, formula, k + d):
-            short = tidied_piece(part)
-            if short is not None:
-                found.append(((k, d, short[0][2], (), [number]), short[1]))
+        for part in tidied_pieces([part for part, _ in split(piece, formula, k + d)]):
+            found.append((number, part))
     return found
+
+
+def counted_pieces(k, d, formula):
+    """Return pairs (number, piece): each point of the formula is in pieces whose numbers add up to 1, others to 0."""
+    told = []
+    for piece, mix in _expanded(room_piece(k, d), [(1, handled(formula))]):
+        told += _split_mix(piece, mix)
+    return told
 
 
 def items_of(k, d, formula, weight):

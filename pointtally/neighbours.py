@@ -1,5 +1,7 @@
 """Which of many pieces have grids that meet a grid, looked up by what their starts leave."""
 
+from math import gcd
+
 from pointtally.grids import grid_of
 from pointtally.matrices import turned
 
@@ -17,6 +19,8 @@ def left_by(table, start):
 def sums_table(one, other):
     """Return the table of a grid whose points are all whole sums of the columns of two grids' tables."""
     m = len(one)
+    if m == 1:
+        return ((gcd(one[0][0], other[0][0]),),)
     return grid_of((*turned(one, m), *turned(other, m)), (0,) * m)[0]
 
 

@@ -45,7 +45,7 @@ def _told_polys(k, sp, size):
     return (numbers, told)
 
 
-def _shell(k, total):
+def shell(k, total):
     """Return the tuples of k integers whose absolute values add up to a total, ascending."""
     if k == 0:
         return [()] if total == 0 else []
@@ -53,7 +53,7 @@ def _shell(k, total):
         return [(-total,), (total,)] if total > 0 else [(0,)]
     found = []
     for first in range(-total, total + 1):
-        found += [(first, *rest) for rest in _shell(k - 1, total - abs(first))]
+        found += [(first, *rest) for rest in shell(k - 1, total - abs(first))]
     return found
 
 
@@ -65,7 +65,7 @@ def alike_steps(k, one, other):
         return None
     total = 0
     while True:
-        for p in _shell(k, total):
+        for p in shell(k, total):
             if value_at(k, rest, p)[0] != 0:
                 return p
         total += 1

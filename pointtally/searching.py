@@ -86,12 +86,12 @@ def solved_whole(m, equations):
     return (n, tuple(letters))
 
 
-def _values(letters, z):
+def form_values(letters, z):
     """Return the values of forms at z."""
     return tuple([form_value(form, z) for form in letters])
 
 
-def _led(rows, letters, n):
+def led_low_rows(rows, letters, n):
     """Return the rows with forms over n letters put in, lowered."""
     return lowered_rows([put_in(row, letters, n) for row in rows])
 
@@ -148,7 +148,7 @@ def _core_point(m, rows):
     found = whole_points(done, inner, 1)
     if len(found) == 0:
         return None
-    return _values(letters, found[0] + (0,) * (m - done))
+    return form_values(letters, found[0] + (0,) * (m - done))
 
 
 def whole_points(m, rows, most):
@@ -157,28 +157,34 @@ def whole_points(m, rows, most):
     if m == 0:
         return [()] if _holds(rows, ()) else []
     if m == 1:
-        return _line_points(rows, most)
+        low, high = line_ends(rows)
+        return [(number,) for number in range(low, min(high, low + most - 1) + 1)]
     if not has_fractions(m, rows):
         return []
-    ends = [span(m, rows, row)[1] for row in rows]
-    flats = [row for row, end in zip(rows, ends) if end == (0, end[1])]
-    if flats:
-        return _flat_points(m, rows, flats, most)
-    letters = _handy_letters(m, rows, ends)
-    return [_values(letters, z) for z in _sliced(m, _led(rows, letters, m), most)]
-
-
-def _flat_points(m, rows, flats, most):
-    """Return at most so many whole points at which some rows are 0, as they are everywhere."""
-    told = solved_whole(m, flats)
+    told = short_letters(m, rows)
     if told is None:
         return []
     n, letters = told
-    return [_values(letters, z) for z in whole_points(n, _led(rows, letters, n), most)]
+    inner = led_low_rows(rows, letters, n)
+    found = _sliced(n, inner, most) if n == m else whole_points(n, inner, most)
+    return [form_values(letters, z) for z in found]
 
 
-def _line_points(rows, most):
-    """Return at most so many whole points of rows over one letter that leave room for finitely many."""
+def short_letters(m, rows):
+    """Return (n, letters) for rows without a ray that some fractions keep, None if no whole ones can.
+
+    letters are forms of n new letters for the m letters: fewer ones if some rows are 0 everywhere, otherwise such
+    that the rows leave more room along the first ones than along the last ones.
+    """
+    ends = [span(m, rows, row)[1] for row in rows]
+    flats = [row for row, end in zip(rows, ends) if end == (0, end[1])]
+    if flats:
+        return solved_whole(m, flats)
+    return (m, _handy_letters(m, rows, ends))
+
+
+def line_ends(rows):
+    """Return (low, high), between which rows over one letter hold, that leave room for finitely many numbers."""
     lows, highs = [], []
     for first, step in rows:
         if step > 0:
@@ -186,9 +192,8 @@ def _line_points(rows, most):
         elif step < 0:
             highs.append(first // -step)
         elif first < 0:
-            return []
-    low, high = max(lows), min(highs)
-    return [(number,) for number in range(low, min(high, low + most - 1) + 1)]
+            return (0, -1)
+    return (max(lows), min(highs))
 
 
 def _handy_letters(m, rows, ends):
@@ -209,14 +214,24 @@ def _handy_letters(m, rows, ends):
     return tuple([(0, *column) for column in turned(reduced_rows(gram), m)])
 
 
+def last_ends(m, rows):
+    """Return the whole ends (low, high) of the last letter over rows without a ray."""
+    (low, by), (high, high_by) = span(m, rows, letter_form(m - 1, m))
+    return (-(-low // by), high // high_by)
+
+
+def rows_at_last(rows, number):
+    """Return the rows with a number put in for the last letter."""
+    return tuple([(row[0] + number * row[-1], *row[1:-1]) for row in rows])
+
+
 def _sliced(m, rows, most):
     """Return at most so many whole points, the last letter being chosen first, from the middle out."""
-    (low, by), (high, high_by) = span(m, rows, letter_form(m - 1, m))
-    low, high = -(-low // by), high // high_by
+    low, high = last_ends(m, rows)
     found = []
     number, step = (low + high) // 2, 0
     while low <= number <= high and len(found) < most:
-        inner = [(row[0] + number * row[-1], *row[1:-1]) for row in rows]
+        inner = rows_at_last(rows, number)
         for point in whole_points(m - 1, inner, most - len(found)):
             found.append((*point, number))
         # From number to number the side changes, and the way grows by one.

@@ -1,9 +1,10 @@
 """Tallies summed over all integers in the place of their last parameters."""
 
 from pointtally.addings import has_fractions
-from pointtally.cornerterms import Frame, terms_of
+from pointtally.cornerterms import terms_of
 from pointtally.errors import NotBounded
 from pointtally.forms import form_plus, form_sum, form_times, led_form, letter_form
+from pointtally.frames import Frame
 from pointtally.grids import divided_grid, form_on, grid_forms, grid_within, meet, size_of, whole_grid
 from pointtally.polys import form_lot, lot_of, lot_times, poly_of, put_lots
 from pointtally.rays import has_ray

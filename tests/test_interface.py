@@ -52,6 +52,13 @@ FUNCTIONS = {
                "put_in_tally(tally, forms, n) tidied(tally)",
     "counting": "is_finite(k, d, formula) tally_of(k, d, formula) weighted_of(k, d, formula, weight) count_at(k, d, formula, p)",
     "summing": "summed(tally, k, many)",
+    "alike": "alike(one, other, k) counts_alike(k, d, f, g)",
+    "parts": "parts(tally, k)",
+    "dilations": "dilation(d, rows) dilation_value(told, t) inner_dilation(d, rows)",
+    "telescopes": "power_sums(n) sum_between(poly, low, high) moved_poly(poly, grid) poly_at(poly, t)",
+    "onebyone": "tally_by_sums(k, d, formula, weight=None) sums_of_piece(piece, weight) count_by_sums(k, d, formula, p)",
+    "nests": "nest_breach(value) check_nest(value)",
+    "nestruns": "run(nest, p) touches(nest, p) first_meet(nest, array, s, t, kinds, p) peak(nest, array, s, p)",
 }
 
 

@@ -4,8 +4,9 @@ import copy
 import unittest
 
 from pointtally import (
-    addings, amounts, cones, corners, counting, directions, edges, falling, formtexts, formulas, forms, fractions, grids, halls,
-    halltallies, leaves, listing, matrices, nearrows, periods, pieces, rays, series, sets, steppolys, summing, tallies, trees,
+    addings, alike, amounts, cones, corners, counting, dilations, directions, edges, falling, formtexts, formulas, forms,
+    fractions, grids, halls, halltallies, leaves, listing, matrices, nearrows, nestruns, nests, onebyone, parts, periods, pieces,
+    rays, series, sets, steppolys, summing, tallies, telescopes, trees,
 )
 
 FORMULA = ("some", ("and", ("row", (4, 2, -2)), ("not", ("divides", 3, (1, 7, 1))), ("or", ("some", ("row", (0, 1, 1, 1))))))
@@ -29,6 +30,9 @@ STEPS = (((3, (5, 7)), (2, (0, 1))), (((1, 2), (0, 1)), ((-2, 3), (2, 1))))
 OTHER = (((3, (1, 1)), (1, (4, 0))), (((1, 1), (1, 1)),))
 WEIGHT = (((1, 2), (0, 1, 2)), ((3, 1), (1, 0, 0)))
 TALLY = ((((0, 1), (9, -1)), ((2, (1, 3)),), *STEPS), (((0, 1), (7, -1)), (), *OTHER))
+BODY = ((0, 1, 0), (0, 0, 1), (1, -2, -3))
+NEST = ("nest", 1, (("loop", ((0, 0),), ((-1, 1),), 2, (("if", ("or", ("divides", 3, (0, 1, 1)), ("row", (3, 0, -1))), (
+    ("do", (("write", "a", ((0, 0, 1),)), ("read", "a", ((-2, 0, 1),)))),)),)),))
 LISTS = ([1, [2]], ["row", [0]], ("row", [0, 1]), ("and", ["or"]), (1, 1, [(0, 0, 0)]), ([(1,)], [0]), ("point", [(0, 1)]),
          ("factors", [0]), ("bounds", [((1, [0]), (1, [0]))]), {"a": [1]}, ("least", (0, 1), [], 1, []))
 CALLS = (
@@ -81,6 +85,13 @@ CALLS = (
     (tallies.kept, TALLY, ((5, -1),), ((3, (0, 1)),)), (tallies.put_in_tally, TALLY, ((1, 2, 3),), 2), (tallies.tidied, TALLY),
     (counting.is_finite, 1, 1, BOXED), (counting.tally_of, 1, 1, BOXED), (counting.weighted_of, 1, 1, BOXED, (((1, 2), (1, 1)),)),
     (counting.count_at, 1, 1, BOXED, (10 ** 40,)), (summing.summed, TALLY, 1, 1),
+    (alike.alike, TALLY, TALLY[:1], 1), (alike.alike, TALLY, TALLY[::-1], 1), (alike.counts_alike, 1, 1, BOXED, ("and", BOXED, ("row", (7, -1, 0)))),
+    (parts.parts, TALLY, 1), (dilations.dilation, 2, BODY), (dilations.inner_dilation, 2, BODY),
+    (dilations.dilation_value, dilations.dilation(2, BODY), -7), (telescopes.power_sums, 4), (telescopes.sum_between, WEIGHT, (1, 2, 0), (3, 0, 4)),
+    (telescopes.moved_poly, (((1, 2), (1, 2)),), GRID), (telescopes.poly_at, WEIGHT, (1, 2, 3)), (onebyone.tally_by_sums, 1, 1, BOXED),
+    (onebyone.tally_by_sums, 1, 1, BOXED, (((1, 2), (1, 1)),)), (onebyone.sums_of_piece, (HALL, GRID), (((1, 2), (1, 1)),)),
+    (onebyone.count_by_sums, 1, 1, BOXED, (10 ** 40,)), (nests.check_nest, NEST), (nestruns.run, NEST, (9,)), (nestruns.touches, NEST, (9,)),
+    (nestruns.first_meet, NEST, "a", 0, 0, ("write", "read"), (9,)), (nestruns.peak, NEST, "a", 0, (9,)),
 )
 ANY_VALUE = (
     (forms.is_form, (), (1,)), (formulas.formula_breach, (), (1,)), (halls.hall_breach, (), ()), (fractions.is_fraction, (), ()),
@@ -89,7 +100,7 @@ ANY_VALUE = (
     (rays.is_ray_or_bounds, (0, 1, ((0, 1),)), ()), (falling.is_empty_paper, (EMPTY,), ()),
     (sets.is_formula_paper, (0, 1, ("row", (-1, 0))), ()), (directions.is_direction, (), (2, CONE)), (trees.is_tree, (CONE,), ()),
     (halltallies.is_hall_paper, (TRIANGLE,), ()), (steppolys.is_plain, (2,), ()), (steppolys.is_step_poly, (1,), ()),
-    (tallies.tally_breach, (), (1,)),
+    (tallies.tally_breach, (), (1,)), (nests.nest_breach, (), ()),
 )
 
 

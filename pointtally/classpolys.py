@@ -1,0 +1,242 @@
+"""Terms without rows as polynomials that hang on the class of p by a lattice, and sums of them with one writing.
+
+A SPREAD is (by, lines): lines a dict by the exponents of p, of lists with a number for each class of a lattice. Its
+value at p is the sum of the numbers of p's class times the powers of p, divided by by.
+"""
+
+from math import lcm
+
+from pointtally.forms import common_part, form_value, put_in
+from pointtally.grids import form_on, place_map, point_at
+from pointtally.lattices import Lattices, class_number, class_starts, index_in, lattice_of
+from pointtally.polys import form_lot, lot_of, put_lots
+from pointtally.steppolys import normal
+from pointtally.terms import gates_of_grid, grid_of_gates
+
+
+def _power_parts(k, steps, poly):
+    """Return ({rests: parts}, by): parts are triples (exponents of p, exponents of what the rests leave, number).
+
+    The steps are normal. A step is its form less what it leaves by its n, divided by n. Products of the same rests
+    stand together.
+    """
+    rests = [step for step in steps if step[0] > 1]
+    wide = k + len(rests)
+    lots = []
+    for n, form in steps:
+        told = list(form) + [0] * len(rests)
+        if n > 1:
+            told[k + 1 + rests.index((n, form))] = -1
+        lots.append(form_lot(tuple(told), n))
+    terms, by = put_lots(lot_of(poly), lots, wide)
+    groups = {}
+    for exponents, number in terms.items():
+        used = [i for i, exponent in enumerate(exponents[k:]) if exponent > 0]
+        own = tuple([exponents[k + i] for i in used])
+        groups.setdefault(tuple([rests[i] for i in used]), []).append((exponents[:k], own, number))
+    return (groups, by)
+
+
+def _class_values(form, sizes):
+    """Return the values of a form at all tuples of entries from 0 to below sizes, ascending."""
+    told = [form[0]]
+    for entry, size in zip(form[1:], sizes):
+        steps = [entry * i for i in range(size)]
+        told = [number + step for number in told for step in steps]
+    return told
+
+
+def _products(left, exponents, known):
+    """Return the products of what rests leave, raised to exponents, for each class; known keeps them."""
+    if exponents not in known:
+        place = [i for i, exponent in enumerate(exponents) if exponent > 0][0]
+        lower = tuple([exponent - int(i == place) for i, exponent in enumerate(exponents)])
+        known[exponents] = [a * b for a, b in zip(_products(left, lower, known), left[place])]
+    return known[exponents]
+
+
+def _table_and_spread(front, rests, parts, by):
+    """Return (table of a lattice, spread by its classes) of parts with these rests on a grid, and 0 beside it."""
+    k = len(front[1])
+    gates = gates_of_grid(front)
+    table = lattice_of(k, (*gates, *rests))
+    inner, _ = place_map(front, (table, front[1]))
+    sizes = [row[i] for i, row in enumerate(inner)]
+    left = [[number % n for number in _class_values(form_on(front, form), sizes)] for n, form in rests]
+    many = index_in(inner)
+    known, lines = {(0,) * len(rests): [1] * many}, {}
+    for exponents, back, number in parts:
+        products = _products(left, back, known)
+        if exponents in lines:
+            lines[exponents] = [a + number * b for a, b in zip(lines[exponents], products)]
+        else:
+            lines[exponents] = [number * b for b in products]
+    if gates:
+        numbers = [class_number(table, point_at(front, start)) for start in class_starts(inner)]
+        lines = {exponents: _scattered(line, numbers, index_in(table)) for exponents, line in lines.items()}
+    return (table, short_spread((by, lines)))
+
+
+def tables_and_spreads(k, gates, steps, poly):
+    """Return pairs (table of a lattice, spread by its classes) that add up to a term without rows."""
+    front = grid_of_gates(k, gates)
+    steps, poly = normal(k, (steps, poly))
+    if front is None or len(poly) == 0:
+        return []
+    groups, by = _power_parts(k, steps, poly)
+    return [_table_and_spread(front, rests, parts, by) for rests, parts in groups.items()]
+
+
+def _scattered(line, numbers, size):
+    """Return the line of all classes in which those with the given numbers have the entries, and the others 0."""
+    told = [0] * size
+    for number, entry in zip(numbers, line):
+        told[number] = entry
+    return told
+
+
+def short_spread(spread):
+    """Return the spread without lines of 0 and without a common part."""
+    by, lines = spread
+    kept = {exponents: line for exponents, line in lines.items() if any(line)}
+    part = by
+    for line in kept.values():
+        part = common_part([part, *line])
+    if part > 1:
+        kept = {exponents: [entry // part for entry in line] for exponents, line in kept.items()}
+    return (by // part, kept)
+
+
+def spread_sum(one, other):
+    """Return the sum of two spreads by one lattice."""
+    (by, lines), (other_by, other_lines) = one, other
+    size = lcm(by, other_by)
+    n, n_other = size // by, size // other_by
+    total = {exponents: [n * entry for entry in line] for exponents, line in lines.items()}
+    for exponents, line in other_lines.items():
+        if exponents in total:
+            total[exponents] = [a + n_other * b for a, b in zip(total[exponents], line)]
+        else:
+            total[exponents] = [n_other * entry for entry in line]
+    return (size, total)
+
+
+def _less_means(spread, led, size):
+    """Return (spread less the means of classes that are led to one, spread of these means)."""
+    by, lines = spread
+    ratio = len(led) // size
+    rest, means = {}, {}
+    for exponents, line in lines.items():
+        sums = [0] * size
+        for place, entry in zip(led, line):
+            sums[place] += entry
+        means[exponents] = sums
+        rest[exponents] = [ratio * entry - sums[place] for place, entry in zip(led, line)]
+    return (short_spread((by * ratio, rest)), short_spread((by * ratio, means)))
+
+
+def settled_spreads(lattices, parts):
+    """Return by their numbers the spreads by lattices that parts, pairs (number, spread), add up to, in one writing.
+
+    What a spread has in common with the lattices above goes up to these: sums are 0 exactly if nothing is left.
+    """
+    waiting, found = {}, {}
+    for i, spread in parts:
+        waiting[i] = spread_sum(waiting[i], spread) if i in waiting else spread
+    for i in range(len(lattices.tables)):
+        if i in waiting:
+            own = short_spread(waiting[i])
+            for j in lattices.above(i):
+                own, means = _less_means(own, lattices.led(i, j), lattices.sizes[j])
+                if means[1]:
+                    waiting[j] = spread_sum(waiting[j], means) if j in waiting else means
+            if own[1]:
+                found[i] = own
+    return found
+
+
+def told_terms(k, terms):
+    """Return (lattices, for each term pairs (number of a lattice, spread)) of terms, whatever their rows are."""
+    told = [tables_and_spreads(k, gates, steps, poly) for _, gates, steps, poly in terms]
+    lattices = Lattices(k, [table for parts in told for table, _ in parts])
+    return (lattices, [[(lattices.places[table], spread) for table, spread in parts] for parts in told])
+
+
+def joined_spreads(told):
+    """Return the settled spreads that settled ones add up to."""
+    found = {}
+    for spreads in told:
+        for i, spread in spreads.items():
+            found[i] = spread_sum(found[i], spread) if i in found else spread
+    kept = {i: short_spread(found[i]) for i in sorted(found)}
+    return {i: spread for i, spread in kept.items() if spread[1]}
+
+
+class ClassSum:
+    """A function of p that settled spreads add up to."""
+
+    def __init__(self, lattices, spreads):
+        self.parts = [(lattices.tables[i], lattices.sizes[i], spreads[i]) for i in spreads]
+
+    def is_nought_at(self, p):
+        """Tell whether it is 0 at p."""
+        powers = {}
+        above, below = 0, 1
+        for table, _, (by, lines) in self.parts:
+            place, total = class_number(table, p), 0
+            for exponents, line in lines.items():
+                if exponents not in powers:
+                    powers[exponents] = power_product(p, exponents)
+                total += line[place] * powers[exponents]
+            above, below = above * by + total * below, below * by
+        return above == 0
+
+    def count_to_end(self):
+        """Return a number of points in a row, along any way: if it is 0 at them, so it is all along the way."""
+        total = 0
+        for _, size, (_, lines) in self.parts:
+            # On each class it is a polynomial, so that a power of the step by classes, less 1, takes it to 0.
+            total += size * (1 + max([sum(exponents) for exponents in lines]))
+        return total
+
+    def led(self, forms, n):
+        """Return the function over n letters that comes of forms for its letters."""
+        told = []
+        for table, _, spread in self.parts:
+            told.append(_led_spread(table, spread, forms, n))
+        lattices = Lattices(n, [table for table, _ in told])
+        parts = [(lattices.places[table], spread) for table, spread in told]
+        return ClassSum(lattices, settled_spreads(lattices, parts))
+
+
+def power_product(p, exponents):
+    """Return the product of numbers raised to exponents."""
+    total = 1
+    for number, exponent in zip(p, exponents):
+        for _ in range(exponent):
+            total = total * number
+    return total
+
+
+def _led_spread(table, spread, forms, n):
+    """Return (table, spread) over n letters of a spread by the classes of a lattice, with forms for its letters."""
+    by, lines = spread
+    gates = gates_of_grid((table, (0,) * len(table)))
+    heads = [(0, *form[1:]) for form in forms]
+    own = lattice_of(n, [(size, put_in(form, heads, n)) for size, form in gates])
+    places = []
+    for start in class_starts(own):
+        places.append(class_number(table, [form_value(form, start) for form in forms]))
+    lots, told = [form_lot(form) for form in forms], {}
+    for exponents, line in lines.items():
+        here = [line[place] for place in places]
+        for more, number in put_lots(({exponents: 1}, 1), lots, n)[0].items():
+            old = told.get(more, [0] * len(here))
+            told[more] = [a + number * b for a, b in zip(old, here)]
+    return (own, short_spread((by, told)))
+
+
+def class_sum(k, terms):
+    """Return the function that terms add up to, whatever their rows are."""
+    lattices, parts = told_terms(k, terms)
+    return ClassSum(lattices, settled_spreads(lattices, [part for own in parts for part in own]))
