@@ -3,11 +3,11 @@
 from pointtally.cells import needed_rows, norm_form, reach_of
 from pointtally.counting import tally_of
 from pointtally.cuttings import Cutting
+from pointtally.endings import goes_on
 from pointtally.errors import NotBounded
 from pointtally.formulas import need_formula
 from pointtally.partings import least_parting
 from pointtally.periods import shell
-from pointtally.splits import goes_on
 from pointtally.tallies import less, tidied, value
 
 TRIED = 200000

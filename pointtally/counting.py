@@ -2,11 +2,11 @@
 
 from pointtally.cornerterms import number_of, terms_of
 from pointtally.countitems import items_of
+from pointtally.endings import goes_on
 from pointtally.errors import NotBounded
 from pointtally.forms import letter_form
 from pointtally.formulas import formula_put_in, need_formula
 from pointtally.polys import lot_of
-from pointtally.splits import goes_on
 from pointtally.tallies import tidied
 
 

@@ -22,7 +22,7 @@ def _has_shape(node, m):
     return word == "divides" and len(node) == 3
 
 
-def _own_breach(node, m):
+def own_breach(node, m):
     """Return None if a node is right but for formulas in it, otherwise the rest of the path to what is wrong."""
     if not _has_shape(node, m):
         return ()
@@ -41,7 +41,7 @@ def formula_breach(value, m):
     waiting = [(value, m, ())]
     while waiting:
         node, letters, path = waiting.pop()
-        rest = _own_breach(node, letters)
+        rest = own_breach(node, letters)
         if rest is not None:
             return path + rest
         if node[0] not in ("row", "divides"):

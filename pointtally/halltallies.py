@@ -77,6 +77,11 @@ def leaf_parts(hall, paper):
     """Return the parts (rows, sign, rays, steps) of a paper, one for each leaf of its trees."""
     if not is_hall_paper(hall, paper):
         raise NotPaper(())
+    return parts_by(hall, paper)
+
+
+def parts_by(hall, paper):
+    """Return the parts of what is known to be a paper."""
     lam, entries = paper
     parts = []
     for basis, (word, tree) in zip(bases(hall), entries):
@@ -103,11 +108,17 @@ def _leaf_steps(hall, point, rays):
 
 def tally_by(hall, paper, weight=None):
     """Return the tally that a paper tells, one term for each of its parts."""
+    parts = leaf_parts(hall, paper)
+    return terms_by(hall, paper[0], parts, weight)
+
+
+def terms_by(hall, lam, parts, weight):
+    """Return the tally of the parts that a paper with a direction tells."""
     k = hall[0]
     own = tuple([(1, letter_form(i, k)) for i in range(k)])
     told = []
-    for rows, sign, rays, steps in leaf_parts(hall, paper):
-        poly = leaf_sum(k, rays, paper[0], weight)
+    for rows, sign, rays, steps in parts:
+        poly = leaf_sum(k, rays, lam, weight)
         told.append((rows, (), (*own, *steps), tuple([((sign * a, b), exponents) for (a, b), exponents in poly])))
     return tuple(told)
 

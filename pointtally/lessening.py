@@ -114,13 +114,13 @@ class Gathering:
     """Takes lots of pieces in, those of each lot less those of earlier ones."""
 
     def __init__(self):
-        self.kept = Neighbours()
+        self.taken = Neighbours()
         self.is_full = False
 
     def take(self, lot):
         """Take a lot in."""
-        for piece in less(lot, self.kept):
-            self.kept.put(piece)
+        for piece in less(lot, self.taken):
+            self.taken.put(piece)
             self.is_full = self.is_full or _is_room(piece)
 
 
@@ -145,4 +145,4 @@ def plain_list(k, d, formula):
     for son in sons:
         if not gathering.is_full:
             gathering.take(kept_children(son) if word == "some" else plain_list(k, d, son))
-    return list(gathering.kept.pieces)
+    return list(gathering.taken.pieces)

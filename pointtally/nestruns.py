@@ -38,13 +38,13 @@ class Runner:
         self.k = k
         self.body = numbered(body, 0)[0]
         self.runs = 0
-        self.rounds = []
+        self.done = []
 
     def go(self, body, t):
         """Run a body at sizes and counters t."""
         for part in body:
             if part[0] == "do":
-                self.rounds.append((part[1], t[self.k:]))
+                self.done.append((part[1], t[self.k:]))
             elif part[0] == "loop":
                 self.go_round(part, t)
             elif holds_within(part[1], t, 0):
@@ -70,7 +70,7 @@ def run(nest, p):
         raise NotFit()
     runner = Runner(k, body)
     runner.go(runner.body, p)
-    return tuple(runner.rounds)
+    return tuple(runner.done)
 
 
 def touches_of(text, t):

@@ -1,6 +1,7 @@
 """Points counted, or a weight summed over them, one unknown after another."""
 
 from pointtally.countitems import counted_pieces
+from pointtally.endings import goes_on
 from pointtally.errors import NotBounded
 from pointtally.forms import letter_form
 from pointtally.formulas import formula_put_in, need_formula
@@ -8,7 +9,7 @@ from pointtally.polys import number_lot, poly_of
 from pointtally.rays import has_ray
 from pointtally.roads import road_of, terms_of_road
 from pointtally.searching import whole_point
-from pointtally.splits import goes_on, split_pieces
+from pointtally.splits import split_pieces
 from pointtally.tallies import scaled, tidied, value
 from pointtally.telescopes import moved_poly
 

@@ -2,8 +2,8 @@
 
 from pointtally.errors import NoPoint, NotBounded, NotFit, TooMany
 from pointtally.falling import empty_paper, is_empty_paper
-from pointtally.formulas import need_formula
-from pointtally.forms import form_plus, form_times
+from pointtally.formulas import formula_put_in, need_formula
+from pointtally.forms import form_plus, form_times, letter_form
 from pointtally.grids import grid_forms, leading, place_in, point_at
 from pointtally.halls import hall_at
 from pointtally.lessening import less, plain_list, with_piece
@@ -74,8 +74,11 @@ def plain_pieces(k, d, formula):
 def formula_paper(k, d, formula):
     """Return a tuple with an empty paper of each plain piece, None if the formula holds somewhere."""
     need_formula(formula, k + d)
-    if has_point(pieces_of(k, d, formula)):
-        return None
+    return None if has_point(pieces_of(k, d, formula)) else empty_papers(k, d, formula)
+
+
+def empty_papers(k, d, formula):
+    """Return a tuple with an empty paper of each plain piece of a formula that holds nowhere."""
     return tuple([empty_paper(piece) for piece in plain_list(k, d, formula)])
 
 
@@ -130,18 +133,23 @@ def _with_entry(piece, i, number):
     return ((k, d, (*rows, row, form_times(row, -1))), grid)
 
 
-def first_point(pieces):
-    """Return the point with the first entry nearest to 0, then the second one, and so on."""
-    need_one_room(pieces)
+def first_entries(pieces, count):
+    """Return the first count entries of the point that first_point returns; the rooms need to share these alone."""
     left = [piece for piece in pieces if _piece_point(piece) is not None]
     if len(left) == 0:
         raise NoPoint()
     point = []
-    for i in range(len(left[0][1][1])):
+    for i in range(count):
         number = _nearest_entry(left, i)
         point.append(number)
         left = [_with_entry(piece, i, number) for piece in left]
     return tuple(point)
+
+
+def first_point(pieces):
+    """Return the point with the first entry nearest to 0, then the second one, and so on."""
+    need_one_room(pieces)
+    return first_entries(pieces, len(pieces[0][1][1]) if pieces else 0)
 
 
 def is_within(one, other):
@@ -164,6 +172,19 @@ def parting(one, other):
     need_one_room((*one, *other))
     parts = less(one, neighbours_of(other)) + less(other, neighbours_of(one))
     return first_point(parts) if has_point(parts) else None
+
+
+def first_parting(m, f, g):
+    """Return the first point of m letters at which just one of two formulas holds, None if there is none."""
+    if f == g:
+        return None
+    if m > 0:
+        # Often the first entry is 0, and then one letter less is left.
+        forms = ((0,) * m, *[letter_form(i, m - 1) for i in range(m - 1)])
+        rest = first_parting(m - 1, formula_put_in(f, forms, m - 1), formula_put_in(g, forms, m - 1))
+        if rest is not None:
+            return (0, *rest)
+    return parting(tuple(split_pieces(0, m, f)), tuple(split_pieces(0, m, g)))
 
 
 def _goes_on(piece):

@@ -6,8 +6,6 @@ from pointtally.grids import divided_grid, form_on
 from pointtally.lessening import has_room, kept_pieces, room_piece
 from pointtally.neighbours import neighbours_of
 from pointtally.pieces import on_grid
-from pointtally.rays import has_ray
-from pointtally.searching import whole_point
 from pointtally.shadows import less_tidied, made_apart, shadows, tidied_pieces
 
 
@@ -209,21 +207,6 @@ def split(piece, formula, outer):
         elif rest != FALSE:
             waiting += [(*way, count) for way in ways_on(part, rest, outer)]
     return done
-
-
-def goes_on(k, d, formula):
-    """Tell whether at some p a formula holds at points without end."""
-    waiting = [(room_piece(k, d), handled(formula))]
-    while waiting:
-        piece, rest = waiting.pop()
-        # A piece without a ray holds finitely many points, whatever is decided in it.
-        hall = piece[0]
-        if rest != FALSE and has_ray(*hall):
-            if rest != TRUE:
-                waiting += ways_on(piece, rest, k + d)
-            elif whole_point(k + d, hall[2]) is not None:
-                return True
-    return False
 
 
 def split_pieces(k, d, formula):

@@ -1,0 +1,98 @@
+"""Counting papers: what shows how many points a formula has, piece by piece."""
+
+from pointtally.endings import goes_on
+from pointtally.errors import NotBounded, NotPaper
+from pointtally.falling import empty_paper, is_empty_paper
+from pointtally.forms import word_of
+from pointtally.formulas import need_formula
+from pointtally.frames import Frame
+from pointtally.halltallies import hall_paper, is_hall_paper, parts_by, terms_by
+from pointtally.lessening import plain_list
+from pointtally.rays import has_ray
+from pointtally.tallies import tidied
+from pointtally.telescopes import moved_poly
+
+
+def _is_entry(piece, value):
+    """Tell whether an entry of a counting paper is right for a piece, its word being right."""
+    word, paper = value
+    return is_hall_paper(piece[0], paper) if word == "hall" else is_empty_paper(piece, paper)
+
+
+def _breach(pieces, value):
+    """Return None for a counting paper of some plain pieces, otherwise what counting_breach tells."""
+    if not isinstance(value, tuple) or len(value) != len(pieces):
+        return -1
+    if not all([word_of(entry, 2) in ("hall", "empty") for entry in value]):
+        return -1
+    for i, (piece, entry) in enumerate(zip(pieces, value)):
+        if not _is_entry(piece, entry):
+            return i
+    return None
+
+
+def counting_breach(k, d, formula, value):
+    """Return None if any value is a counting paper, -1 for what are no such entries, else the first wrong one."""
+    need_formula(formula, k + d)
+    return _breach(plain_list(k, d, formula), value)
+
+
+def _papers(pieces):
+    """Return a counting paper of the plain pieces of a finite formula."""
+    told = []
+    for piece in pieces:
+        # A piece that goes on has no point, as the formula is finite.
+        hall = piece[0]
+        told.append(("empty", empty_paper(piece)) if has_ray(*hall) else ("hall", hall_paper(hall)))
+    return tuple(told)
+
+
+def counting_paper(k, d, formula):
+    """Return a counting paper of a finite formula."""
+    need_formula(formula, k + d)
+    if goes_on(k, d, formula):
+        raise NotBounded()
+    return _papers(plain_list(k, d, formula))
+
+
+def _piece_terms(piece, paper, weight):
+    """Return the terms, over the letters of points, that the paper of a piece's hall tells."""
+    hall, grid = piece
+    k = hall[0]
+    frame = Frame(k, grid)
+    told = []
+    own = None if weight is None else moved_poly(weight, grid)
+    for rows, _, steps, poly in terms_by(hall, paper[0], parts_by(hall, paper), own):
+        told.append((frame.led_rows(rows), frame.gates, tuple(frame.led_steps(steps)), poly))
+    return told
+
+
+def _tally_of_papers(pieces, papers, weight):
+    """Return the tally that a counting paper of some plain pieces tells."""
+    told = []
+    for piece, (word, paper) in zip(pieces, papers):
+        if word == "hall":
+            told += _piece_terms(piece, paper, weight)
+    return tidied(tuple(told))
+
+
+def tally_from(k, d, formula, value, weight=None):
+    """Return a tally of the number of points, or of the sum of a weight over them, made from a counting paper."""
+    pieces = plain_list(k, d, formula)
+    place = _breach(pieces, value)
+    if place is not None:
+        raise NotPaper((place,))
+    return _tally_of_papers(pieces, value, weight)
+
+
+def paper_and_tally(k, d, formula, weight):
+    """Return (counting paper, tally that it tells) of a finite formula."""
+    pieces = plain_list(k, d, formula)
+    papers = _papers(pieces)
+    return (papers, _tally_of_papers(pieces, papers, weight))
+
+
+def tally_or_none(k, d, formula, value, weight):
+    """Return the tally that any value tells as a counting paper, None if it is none."""
+    pieces = plain_list(k, d, formula)
+    return _tally_of_papers(pieces, value, weight) if _breach(pieces, value) is None else None
