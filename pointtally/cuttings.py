@@ -22,7 +22,9 @@ def packed_spreads(lattices, told):
     for spreads in told:
         for i, (by, lines) in spreads.items():
             sizes[i] = lcm(sizes.get(i, 1), by)
-            exponents.setdefault(i, {}).update({at: True for at in lines})
+            known = exponents.setdefault(i, {})
+            for at in lines:
+                known[at] = True
     for spreads in told:
         for i, (by, lines) in spreads.items():
             top = max([abs(entry) for line in list(lines.values()) for entry in line])

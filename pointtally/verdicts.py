@@ -150,3 +150,23 @@ def check_parting(is_so, claim, paper):
     if not is_tuple(paper, 1) or not are_numbers(paper[0], k) or order_of(paper[0]) >= order_of(p):
         return False
     return value(tally, paper[0]) != value(other, paper[0])
+
+
+CHECKS = {
+    "point": check_point,
+    "empty": check_empty,
+    "finite": check_finite,
+    "count": check_count,
+    "sum": check_sum,
+    "tells": check_tells,
+    "within": check_within,
+    "alike": check_alike,
+    "parting": check_parting,
+}
+
+
+def is_shown(saying, paper):
+    """Tell whether any value is a paper of a saying."""
+    word, claim = saying
+    check = CHECKS[claim[0]]
+    return check(word == "is", claim, paper)

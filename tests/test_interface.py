@@ -59,6 +59,16 @@ FUNCTIONS = {
     "onebyone": "tally_by_sums(k, d, formula, weight=None) sums_of_piece(piece, weight) count_by_sums(k, d, formula, p)",
     "nests": "nest_breach(value) check_nest(value)",
     "nestruns": "run(nest, p) touches(nest, p) first_meet(nest, array, s, t, kinds, p) peak(nest, array, s, p)",
+    "nesttallies": "rounds_formula(nest, s) rounds_tally(nest, s) cost_tally(nest, prices) cells_formula(nest, array, kind) "
+                   "cells_tally(nest, array, kind) lines_tally(nest, array, kind, w) both_tally(nest, array, s, t) "
+                   "meets_formula(nest, array, s, t, kinds) meets_tally(nest, array, s, t, kinds) can_turn(nest, depth) "
+                   "live_tally(nest, array, s) touch_alike(one, other, array, kind) touch_parting(one, other, array, kind)",
+    "countpapers": "counting_breach(k, d, formula, value) counting_paper(k, d, formula) tally_from(k, d, formula, value, weight=None)",
+    "claims": "claim_breach(value) saying_breach(value) opposite(saying) size_of(paper)",
+    "judging": "judge(saying, value)",
+    "answers": "answer(claim)",
+    "sheets": "answered(claims) sheet_breach(value) check_sheet(value)",
+    "books": "book_breach(value) need_book(value) hangs_on(book, name) written_out(book, name)",
 }
 
 
@@ -73,6 +83,16 @@ class Interface(unittest.TestCase):
                     self.assertTrue(inspect.isfunction(function))
                     self.assertEqual(function.__module__, module.__name__)
                     self.assertEqual(name + str(inspect.signature(function)), line)
+
+    def test_desk(self):
+        module = importlib.import_module("pointtally.desk")
+        self.assertEqual(module.Desk.__module__, "pointtally.desk")
+        self.assertEqual(str(inspect.signature(module.Desk)), "(book=(), *, most=50)")
+        own = vars(module.Desk)
+        for name in ("book", "deeds", "made"):
+            self.assertIsInstance(own[name], property)
+        for name, told in (("do", "(self, deed)"), ("undo", "(self)"), ("again", "(self)"), ("tally", "(self, name)"), ("kept", "(self, name)"), ("twin", "(self)")):
+            self.assertEqual(str(inspect.signature(own[name])), told)
 
     def test_errors(self):
         module = importlib.import_module("pointtally.errors")

@@ -4,10 +4,13 @@ import copy
 import unittest
 
 from pointtally import (
-    addings, alike, amounts, cones, corners, counting, dilations, directions, edges, falling, formtexts, formulas, forms,
-    fractions, grids, halls, halltallies, leaves, listing, matrices, nearrows, nestruns, nests, onebyone, parts, periods, pieces,
-    rays, series, sets, steppolys, summing, tallies, telescopes, trees,
+    addings, alike, amounts, answers, books, claims, cones, corners, counting, countpapers, dilations, directions, edges, falling,
+    formtexts, formulas, forms, fractions, grids, halls, halltallies, judging, leaves, listing, matrices, nearrows, nestruns, nests,
+    nesttallies, onebyone, parts, periods, pieces, rays, series, sets, sheets, steppolys, summing, tallies, telescopes, trees,
 )
+from pointtally.desk import Desk
+from tests.test_books import BOOK
+from tests.test_claims import CLAIMS
 
 FORMULA = ("some", ("and", ("row", (4, 2, -2)), ("not", ("divides", 3, (1, 7, 1))), ("or", ("some", ("row", (0, 1, 1, 1))))))
 GRID = (((2, 0), (1, 3)), (1, 2))
@@ -33,6 +36,9 @@ TALLY = ((((0, 1), (9, -1)), ((2, (1, 3)),), *STEPS), (((0, 1), (7, -1)), (), *O
 BODY = ((0, 1, 0), (0, 0, 1), (1, -2, -3))
 NEST = ("nest", 1, (("loop", ((0, 0),), ((-1, 1),), 2, (("if", ("or", ("divides", 3, (0, 1, 1)), ("row", (3, 0, -1))), (
     ("do", (("write", "a", ((0, 0, 1),)), ("read", "a", ((-2, 0, 1),)))),)),)),))
+COUNTED = countpapers.counting_paper(1, 1, BOXED)
+SHEET = sheets.answered(tuple(CLAIMS.values()))
+OTHER_NEST = ("nest", 1, (("loop", ((0, 0),), ((0, 1),), 2, (("do", (("write", "a", ((0, 0, 1),)),)),)),))
 LISTS = ([1, [2]], ["row", [0]], ("row", [0, 1]), ("and", ["or"]), (1, 1, [(0, 0, 0)]), ([(1,)], [0]), ("point", [(0, 1)]),
          ("factors", [0]), ("bounds", [((1, [0]), (1, [0]))]), {"a": [1]}, ("least", (0, 1), [], 1, []))
 CALLS = (
@@ -92,6 +98,16 @@ CALLS = (
     (onebyone.tally_by_sums, 1, 1, BOXED, (((1, 2), (1, 1)),)), (onebyone.sums_of_piece, (HALL, GRID), (((1, 2), (1, 1)),)),
     (onebyone.count_by_sums, 1, 1, BOXED, (10 ** 40,)), (nests.check_nest, NEST), (nestruns.run, NEST, (9,)), (nestruns.touches, NEST, (9,)),
     (nestruns.first_meet, NEST, "a", 0, 0, ("write", "read"), (9,)), (nestruns.peak, NEST, "a", 0, (9,)),
+    (nesttallies.rounds_formula, NEST, 0), (nesttallies.rounds_tally, NEST, 0), (nesttallies.cost_tally, NEST, (3,)),
+    (nesttallies.cells_formula, NEST, "a", "any"), (nesttallies.cells_tally, NEST, "a", "any"), (nesttallies.lines_tally, NEST, "a", "any", 3),
+    (nesttallies.both_tally, NEST, "a", 0, 0), (nesttallies.meets_formula, NEST, "a", 0, 0, ("any", "write")),
+    (nesttallies.meets_tally, NEST, "a", 0, 0, ("any", "write")), (nesttallies.can_turn, NEST, 0), (nesttallies.live_tally, NEST, "a", 0),
+    (nesttallies.touch_alike, NEST, OTHER_NEST, "a", "any"), (nesttallies.touch_parting, NEST, OTHER_NEST, "a", "any"),
+    (countpapers.counting_paper, 1, 1, BOXED), (countpapers.counting_breach, 1, 1, BOXED, COUNTED), (countpapers.tally_from, 1, 1, BOXED, COUNTED),
+    (countpapers.tally_from, 1, 1, BOXED, COUNTED, (((1, 2), (1, 1)),)), (claims.opposite, SHEET[0][0]), (claims.size_of, SHEET),
+    *[(answers.answer, claim) for claim in CLAIMS.values()], *[(judging.judge, saying, paper) for saying, paper in SHEET],
+    (sheets.answered, tuple(CLAIMS.values())), (sheets.check_sheet, SHEET), (books.need_book, BOOK), (books.hangs_on, BOOK, "pair"),
+    (books.written_out, BOOK, "pair"),
 )
 ANY_VALUE = (
     (forms.is_form, (), (1,)), (formulas.formula_breach, (), (1,)), (halls.hall_breach, (), ()), (fractions.is_fraction, (), ()),
@@ -100,7 +116,9 @@ ANY_VALUE = (
     (rays.is_ray_or_bounds, (0, 1, ((0, 1),)), ()), (falling.is_empty_paper, (EMPTY,), ()),
     (sets.is_formula_paper, (0, 1, ("row", (-1, 0))), ()), (directions.is_direction, (), (2, CONE)), (trees.is_tree, (CONE,), ()),
     (halltallies.is_hall_paper, (TRIANGLE,), ()), (steppolys.is_plain, (2,), ()), (steppolys.is_step_poly, (1,), ()),
-    (tallies.tally_breach, (), (1,)), (nests.nest_breach, (), ()),
+    (tallies.tally_breach, (), (1,)), (nests.nest_breach, (), ()), (countpapers.counting_breach, (1, 1, BOXED), ()), (claims.claim_breach, (), ()),
+    (claims.saying_breach, (), ()), (judging.judge, (), (COUNTED,)), (judging.judge, (SHEET[3][0],), ()), (sheets.sheet_breach, (), ()),
+    (books.book_breach, (), ()),
 )
 
 
@@ -128,6 +146,21 @@ class Unchanged(unittest.TestCase):
                     before = repr(value)
                     function(*ahead, value, *behind)
                     self.assertEqual(repr(value), before)
+
+    def test_desk(self):
+        book, deed = copy.deepcopy(BOOK), ("write", "a", (0, 1, ("and", ("row", (0, 1)), ("row", (4, -1)))))
+        desk = Desk(book)
+        for value in (*LISTS, ["write", "a", deed[2]], ("write", "a", list(deed[2])), ("write", "a", (0, 1, ["or"]))):
+            before = repr(value)
+            for call in (desk.do, desk.tally, desk.kept, Desk):
+                self.assertRaises(ValueError, call, value)
+            self.assertEqual(repr(value), before)
+        desk.do(deed)
+        told = [desk.book, desk.deeds, desk.tally("a"), desk.made]
+        self.assertTrue(is_fixed(tuple(told)))
+        self.assertEqual([desk.book, desk.deeds, desk.tally("a"), desk.made], told)
+        self.assertEqual((book, deed), (BOOK, desk.undo()))
+        self.assertEqual(told[0], (("a", deed[2]), *BOOK))
 
     def test_every_function_is_called(self):
         from tests.test_interface import FUNCTIONS
