@@ -10,7 +10,7 @@ from pointtally.partings import least_parting
 from pointtally.periods import shell
 from pointtally.tallies import less, tidied, value
 
-TRIED = 200000
+TRIED = 60000
 
 
 def _size_of_terms(terms):

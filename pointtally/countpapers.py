@@ -20,8 +20,8 @@ def _is_entry(piece, value):
 
 
 def _breach(pieces, value):
-    """Return None for a counting paper of some plain pieces, otherwise what counting_breach tells."""
-    if not isinstance(value, tuple) or len(value) != len(pieces):
+    """Return None for a tuple that is a counting paper of some plain pieces, else what counting_breach tells."""
+    if len(value) != len(pieces):
         return -1
     if not all([word_of(entry, 2) in ("hall", "empty") for entry in value]):
         return -1
@@ -31,10 +31,18 @@ def _breach(pieces, value):
     return None
 
 
+def _pieces_and_breach(k, d, formula, value):
+    """Return (plain pieces, what counting_breach tells of any value); no pieces for what is no tuple."""
+    if not isinstance(value, tuple):
+        return ([], -1)
+    pieces = plain_list(k, d, formula)
+    return (pieces, _breach(pieces, value))
+
+
 def counting_breach(k, d, formula, value):
     """Return None if any value is a counting paper, -1 for what are no such entries, else the first wrong one."""
     need_formula(formula, k + d)
-    return _breach(plain_list(k, d, formula), value)
+    return _pieces_and_breach(k, d, formula, value)[1]
 
 
 def _papers(pieces):
@@ -78,8 +86,7 @@ def _tally_of_papers(pieces, papers, weight):
 
 def tally_from(k, d, formula, value, weight=None):
     """Return a tally of the number of points, or of the sum of a weight over them, made from a counting paper."""
-    pieces = plain_list(k, d, formula)
-    place = _breach(pieces, value)
+    pieces, place = _pieces_and_breach(k, d, formula, value)
     if place is not None:
         raise NotPaper((place,))
     return _tally_of_papers(pieces, value, weight)
@@ -94,5 +101,5 @@ def paper_and_tally(k, d, formula, weight):
 
 def tally_or_none(k, d, formula, value, weight):
     """Return the tally that any value tells as a counting paper, None if it is none."""
-    pieces = plain_list(k, d, formula)
-    return _tally_of_papers(pieces, value, weight) if _breach(pieces, value) is None else None
+    pieces, place = _pieces_and_breach(k, d, formula, value)
+    return _tally_of_papers(pieces, value, weight) if place is None else None

@@ -4,6 +4,7 @@ from pointtally.counting import tally_of
 from pointtally.errors import NotFit
 from pointtally.forms import form_plus
 from pointtally.formulas import FALSE
+from pointtally.halls import MOST_PARAMETERS
 from pointtally.nestcells import any_of, cells_of, indexes_of, lines_of
 from pointtally.nestforms import counters_of, difference, round_parts, statements_in, unit_forms
 from pointtally.nestmeets import Pair, all_of, touched_about
@@ -11,7 +12,6 @@ from pointtally.sets import first_entries, first_parting, has_point, pieces_of
 from pointtally.tallies import scaled, tidied
 
 MOST_COUNTERS = 4
-MOST_PARAMETERS = 3
 MOST_TURNED = 2
 
 

@@ -80,7 +80,7 @@ def _is_end(piece, entry):
 def check_finite(is_so, claim, paper):
     """Tell whether a paper shows that a formula is finite, or where it goes on."""
     _, k, d, formula = claim
-    pieces = plain_list(k, d, formula)
+    pieces = plain_list(k, d, formula) if isinstance(paper, tuple) else []
     if is_so:
         return is_tuple(paper, len(pieces)) and all([_is_end(piece, entry) for piece, entry in zip(pieces, paper)])
     if not is_tuple(paper, 2) or not are_numbers(paper[0], k + d) or not are_numbers(paper[1], d) or not any(paper[1]):
