@@ -111,27 +111,109 @@ def short_lot(lot):
     return ({exponents: number // part for exponents, number in terms.items() if number != 0}, by // part)
 
 
+def _packed(exponents, width):
+    """Return one integer that has exponents, each in so many bits: those of a product add up."""
+    code = 0
+    for exponent in exponents[::-1]:
+        code = (code << width) + exponent
+    return code
+
+
+def _unpacked(code, width, j):
+    """Return the j exponents that an integer has."""
+    mask, told = (1 << width) - 1, []
+    for _ in range(j):
+        told.append(code & mask)
+        code = code >> width
+    return tuple(told)
+
+
+def _packed_terms(terms, width):
+    """Return the terms other than 0 by their packed exponents."""
+    return {_packed(exponents, width): number for exponents, number in terms.items() if number != 0}
+
+
+def _degree(lot):
+    """Return the greatest sum of exponents in a lot."""
+    return max([0, *[sum(exponents) for exponents in lot[0]]])
+
+
+def _packed_product(one, other):
+    """Return the product of two dicts of numbers by packed exponents."""
+    found = {}
+    for code, number in one.items():
+        for more, factor in other.items():
+            at = code + more
+            found[at] = found.get(at, 0) + number * factor
+    return found
+
+
+def _powers_of_one(terms, by, top):
+    """Return pairs (packed exponents, number) of the powers up to top of at most one term, by ** top times each."""
+    found = list(terms.items())
+    code, number = found[0] if found else (0, 0)
+    told, power, scale = [], 1, 1
+    for exponent in range(top + 1):
+        told.append((code * exponent, power))
+        power = power * number
+    for exponent in range(top, -1, -1):
+        at, power = told[exponent]
+        told[exponent] = (at, power * scale)
+        scale = scale * by
+    return told
+
+
+def _without_last(groups, terms, by, top):
+    """Return dicts of terms by keys less their last exponent, terms, divided by by, being put in for its letter.
+
+    All of it is by ** top times as great.
+    """
+    parts = {}
+    for key, group in groups.items():
+        parts.setdefault(key[:-1], {})[key[-1]] = group
+    found = {}
+    for key, own in parts.items():
+        total, scale = {}, 1
+        for exponent in range(top, -1, -1):
+            total = _packed_product(total, terms)
+            for code, number in own.get(exponent, {}).items():
+                total[code] = total.get(code, 0) + number * scale
+            scale = scale * by
+        found[key] = total
+    return found
+
+
+def _without_singles(items, powers, wide):
+    """Return dicts of terms by the exponents of wide letters; powers are those put in for other letters, by places."""
+    groups = {}
+    for exponents, number in items:
+        code = 0
+        for i, own in powers.items():
+            more, factor = own[exponents[i]]
+            code, number = code + more, number * factor
+        group = groups.setdefault(tuple([exponents[i] for i in wide]), {})
+        group[code] = group.get(code, 0) + number
+    return groups
+
+
 def put_lots(lot, lots, j):
     """Return the lot over j letters that comes of a lot if lots over j letters stand for its letters."""
     terms, by = lot
-    told = _put([(exponents, number) for exponents, number in terms.items() if number != 0], lots, 0, j)
-    return short_lot((told[0], told[1] * by))
-
-
-def _put(items, lots, at, j):
-    """Return what items, pairs of exponents and a number, come to, letters ahead of number at being left out."""
-    if at == len(lots) or len(items) == 0:
-        return number_lot(sum([number for _, number in items]), 1, j)
-    groups = {}
-    for exponents, number in items:
-        groups.setdefault(exponents[at], []).append((exponents, number))
-    total = number_lot(0, 1, j)
-    for exponent in range(max(list(groups)), -1, -1):
-        if any(list(total[0].values())):
-            total = lot_times(total, lots[at])
-        if exponent in groups:
-            total = lot_sum(total, _put(groups[exponent], lots, at + 1, j))
-    return short_lot(total)
+    items = [(exponents, number) for exponents, number in terms.items() if number != 0]
+    tops = [max([0, *[exponents[i] for exponents, _ in items]]) for i in range(len(lots))]
+    used = [i for i, top in enumerate(tops) if top > 0]
+    width = sum([tops[i] * _degree(lots[i]) for i in used]).bit_length()
+    led = {i: _packed_terms(lots[i][0], width) for i in used}
+    wide = [i for i in used if len(led[i]) > 1]
+    powers = {i: _powers_of_one(led[i], lots[i][1], tops[i]) for i in used if len(led[i]) <= 1}
+    groups = _without_singles(items, powers, wide)
+    for i in wide[::-1]:
+        groups = _without_last(groups, led[i], lots[i][1], tops[i])
+    for i in used:
+        for _ in range(tops[i]):
+            by = by * lots[i][1]
+    told = groups.get((), {})
+    return short_lot(({_unpacked(code, width, j): number for code, number in told.items()}, by))
 
 
 def _ways_to_take(own, j, most):

@@ -74,6 +74,16 @@ class Reducer:
                 i = max(1, i - 1)
 
 
+def products_of(m, heads):
+    """Return the table of the sums, over pairs (weight, head of m entries), of the weight times two of its entries."""
+    gram = [[0] * m for _ in range(m)]
+    for weight, head in heads:
+        for i, entry in enumerate(head):
+            if entry != 0:
+                gram[i] = [old + weight * entry * other for old, other in zip(gram[i], head)]
+    return gram
+
+
 def reduced_rows(gram):
     """Return whole rows that make up all whole rows, short ones first, as a table of products measures them."""
     reducer = Reducer(gram)

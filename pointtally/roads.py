@@ -5,7 +5,9 @@ from pointtally.forms import common_part, form_sum, form_times, letter_form, put
 from pointtally.frames import Frame
 from pointtally.grids import divided_grid, form_on, grid_forms, grid_within, leading, whole_grid
 from pointtally.lastsums import by_roundings, classes_of, put_in_summand, sums_over_last, told_part
+from pointtally.matrices import turned
 from pointtally.polys import lot_of
+from pointtally.reducing import products_of, reduced_rows
 from pointtally.searching import echelon
 from pointtally.shadows import tidied_piece
 
@@ -14,6 +16,14 @@ def _tidied_rows(m, rows):
     """Return the rows without those that follow from others, None if no fractions keep them."""
     told = tidied_piece(((0, m, rows), whole_grid(m)))
     return None if told is None else told[0][2]
+
+
+def _product(numbers):
+    """Return the product of some numbers."""
+    total = 1
+    for number in numbers:
+        total = total * number
+    return total
 
 
 class Road:
@@ -87,6 +97,26 @@ class Road:
         many = sum([classes_of(part) for whole in own.summand for part in by_roundings(whole)])
         return len(bounds) * many * max(bounds)
 
+    def costs(self):
+        """Return the costs of all unknowns."""
+        return [self.cost(i) for i in range(self.e)]
+
+    def with_short_heads(self):
+        """Return the road with unknowns by which all heads together are short."""
+        k, e = self.k, self.e
+        columns = turned(reduced_rows(products_of(e, [(1, row[k + 1:]) for row in self.rows])), e)
+        units = [letter_form(i, k + e) for i in range(k)]
+        return self.led(self.front, (*units, *[(*[0] * (k + 1), *column) for column in columns]), e)
+
+    def cheapest(self):
+        """Return (road, its costs) with the unknowns that it has or with others, whichever cost less."""
+        own = (self, self.costs())
+        if self.e < 2:
+            return own
+        other = self.with_short_heads()
+        more = (other, other.costs())
+        return more if _product(more[1]) < _product(own[1]) else own
+
     def with_last(self, i):
         """Return the road in which unknown number i is the last one."""
         if i == self.e - 1:
@@ -98,8 +128,8 @@ class Road:
 
     def onward(self):
         """Return the roads with one unknown less that come of summing over the best one."""
-        costs = [self.cost(i) for i in range(self.e)]
-        own = self.with_last(costs.index(min(costs)))
+        road, costs = self.cheapest()
+        own = road.with_last(costs.index(min(costs)))
         parts = sums_over_last(own.k + own.e, own.rows, own.summand)
         return [Road(own.front, own.e - 1, rows, summand) for rows, summand in parts]
 

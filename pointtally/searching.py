@@ -4,7 +4,7 @@ from pointtally.addings import has_fractions, least, settled
 from pointtally.forms import form_plus, form_sum, form_times, form_value, letter_form, lowered, product_sum, put_in
 from pointtally.grids import bezout
 from pointtally.matrices import turned
-from pointtally.reducing import reduced_rows
+from pointtally.reducing import products_of, reduced_rows
 from pointtally.tableaus import Tableau
 
 FINE = 64
@@ -205,12 +205,8 @@ def _handy_letters(m, rows, ends):
     for a, b in ends:
         if a * by > great * b:
             great, by = a, b
-    gram = [[0] * m for _ in range(m)]
-    for row, (a, b) in zip(rows, ends):
-        weight = (FINE * great * great * b * b) // (by * by * a * a)
-        for i, entry in enumerate(row[1:]):
-            if entry != 0:
-                gram[i] = [old + weight * entry * other for old, other in zip(gram[i], row[1:])]
+    weights = [(FINE * great * great * b * b) // (by * by * a * a) for a, b in ends]
+    gram = products_of(m, [(weight, row[1:]) for weight, row in zip(weights, rows)])
     return tuple([(0, *column) for column in turned(reduced_rows(gram), m)])
 
 
