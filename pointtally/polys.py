@@ -176,7 +176,8 @@ def _without_last(groups, terms, by, top):
         total, scale = {}, 1
         for exponent in range(top, -1, -1):
             total = _packed_product(total, terms)
-            for code, number in own.get(exponent, {}).items():
+            group = own.get(exponent, {})
+            for code, number in group.items():
                 total[code] = total.get(code, 0) + number * scale
             scale = scale * by
         found[key] = total

@@ -152,6 +152,23 @@ class Pieces(unittest.TestCase):
             wanted = sum(poly_at(weight, (p, x)) for x in range(-200, 200) if has(piece, (p, x)))
             self.assertEqual(tally_at(tally, (p,)), wanted)
 
+    def test_slanting_lattices(self):
+        # Divisibilities of several unknowns leave lattices on which plain unknowns have long heads.
+        k, d, _, formula = read_room(
+            "count a, b, c, e where 0 <= a and a <= 1 and 0 <= b and b <= 1 and -2 <= c and c <= 1 and -3 <= e and e <= 3 and "
+            "12 divides (1 - a + b - e) and 1 - a + b >= e and 11 divides (1 - a + b - c + e)")
+        wanted = len(listed(k, d, formula, (), -3, 3, 0))
+        self.assertEqual((count_by_sums(k, d, formula, ()), tally_at(tally_by_sums(k, d, formula), ())), (wanted, wanted))
+        k, d, _, formula = read_room(
+            "for n count x, y, z where 0 <= x and x <= n and -3 <= y and y <= n and 0 <= z and x + z <= 40 and "
+            "11 divides (n - x - y + 2 z + 4) and 6 divides (1 - n + x - y + z)")
+        tally, other = tally_by_sums(k, d, formula), tally_of(k, d, formula)
+        for n in (-1, 0, 3, 17):
+            wanted = sum((n - x - y + 2 * z + 4) % 11 == 0 and (1 - n + x - y + z) % 6 == 0
+                         for x in range(min(n, 40) + 1) for y in range(-3, n + 1) for z in range(41 - x))
+            self.assertEqual((tally_at(tally, (n,)), tally_at(other, (n,)), count_by_sums(k, d, formula, (n,))), (wanted,) * 3)
+        self.assertEqual(tally_at(tally, (FAR,)), tally_at(other, (FAR,)))
+
     def test_rays(self):
         one = (((1, 1), (0, 0)),)
         for rows, goes_on in ((((0, 0, 1),), True), ((), True), (((0, 0, 1), (-1, 0, 0)), False), (((0, 0, 1), (-3, 2, 0), (3, -2, 0)), False),
