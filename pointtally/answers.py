@@ -2,7 +2,7 @@
 
 from pointtally.alike import alike
 from pointtally.claims import claim_breach
-from pointtally.countpapers import paper_and_tally
+from pointtally.countpapers import paper_and_number, paper_and_tally
 from pointtally.errors import NotClaim
 from pointtally.falling import empty_paper
 from pointtally.grids import point_at
@@ -70,23 +70,21 @@ def _answer_finite(claim):
 def _answer_count(claim):
     """Return (whether it is so, paper)."""
     _, k, d, formula, p, n = claim
-    paper, tally = paper_and_tally(k, d, formula, None)
-    number = value(tally, p)[0]
+    paper, (number, _) = paper_and_number(k, d, formula, None, p)
     return (True, (paper,)) if number == n else (False, (number, paper))
 
 
 def _answer_sum(claim):
     """Return (whether it is so, paper)."""
     _, k, d, formula, weight, p, total = claim
-    paper, tally = paper_and_tally(k, d, formula, weight)
-    number = value(tally, p)
+    paper, number = paper_and_number(k, d, formula, weight, p)
     return (True, (paper,)) if number == total else (False, (number, paper))
 
 
 def _answer_tells(claim):
     """Return (whether it is so, paper)."""
     _, k, d, formula, tally = claim
-    paper, own = paper_and_tally(k, d, formula, None)
+    paper, own = paper_and_tally(k, d, formula)
     p = alike(own, tally, k)
     return (True, (paper,)) if p is None else (False, (p, value(own, p)[0], paper))
 

@@ -5,12 +5,10 @@ from pointtally.errors import NotBounded, NotPaper
 from pointtally.falling import empty_paper, is_empty_paper
 from pointtally.forms import word_of
 from pointtally.formulas import need_formula
-from pointtally.frames import Frame
-from pointtally.halltallies import hall_paper, is_hall_paper, parts_by, terms_by
+from pointtally.halltallies import hall_paper, is_hall_paper
 from pointtally.lessening import plain_list
+from pointtally.paperterms import number_of_papers, tally_of_papers
 from pointtally.rays import has_ray
-from pointtally.tallies import tidied
-from pointtally.telescopes import moved_poly
 
 
 def _is_entry(piece, value):
@@ -63,43 +61,35 @@ def counting_paper(k, d, formula):
     return _papers(plain_list(k, d, formula))
 
 
-def _piece_terms(piece, paper, weight):
-    """Return the terms, over the letters of points, that the paper of a piece's hall tells."""
-    hall, grid = piece
-    k = hall[0]
-    frame = Frame(k, grid)
-    told = []
-    own = None if weight is None else moved_poly(weight, grid)
-    for rows, _, steps, poly in terms_by(hall, paper[0], parts_by(hall, paper), own):
-        told.append((frame.led_rows(rows), frame.gates, tuple(frame.led_steps(steps)), poly))
-    return told
-
-
-def _tally_of_papers(pieces, papers, weight):
-    """Return the tally that a counting paper of some plain pieces tells."""
-    told = []
-    for piece, (word, paper) in zip(pieces, papers):
-        if word == "hall":
-            told += _piece_terms(piece, paper, weight)
-    return tidied(tuple(told))
-
-
 def tally_from(k, d, formula, value, weight=None):
     """Return a tally of the number of points, or of the sum of a weight over them, made from a counting paper."""
     pieces, place = _pieces_and_breach(k, d, formula, value)
     if place is not None:
         raise NotPaper((place,))
-    return _tally_of_papers(pieces, value, weight)
+    return tally_of_papers(pieces, value, weight)
 
 
-def paper_and_tally(k, d, formula, weight):
-    """Return (counting paper, tally that it tells) of a finite formula."""
+def paper_and_tally(k, d, formula):
+    """Return (counting paper, tally of the number of points that it tells) of a finite formula."""
     pieces = plain_list(k, d, formula)
     papers = _papers(pieces)
-    return (papers, _tally_of_papers(pieces, papers, weight))
+    return (papers, tally_of_papers(pieces, papers, None))
 
 
-def tally_or_none(k, d, formula, value, weight):
-    """Return the tally that any value tells as a counting paper, None if it is none."""
+def paper_and_number(k, d, formula, weight, p):
+    """Return (counting paper, value of its tally at p) of a finite formula."""
+    pieces = plain_list(k, d, formula)
+    papers = _papers(pieces)
+    return (papers, number_of_papers(pieces, papers, weight, p))
+
+
+def tally_or_none(k, d, formula, value):
+    """Return the tally of the number of points that any value tells as a counting paper, None if it is none."""
     pieces, place = _pieces_and_breach(k, d, formula, value)
-    return _tally_of_papers(pieces, value, weight) if place is None else None
+    return tally_of_papers(pieces, value, None) if place is None else None
+
+
+def number_or_none(k, d, formula, value, weight, p):
+    """Return the value at p of the tally that any value tells as a counting paper, None if it is none."""
+    pieces, place = _pieces_and_breach(k, d, formula, value)
+    return number_of_papers(pieces, value, weight, p) if place is None else None

@@ -3,6 +3,7 @@
 from pointtally.addings import are_empty_factors, has_fractions, settled
 from pointtally.forms import form_plus, form_sum, form_times, word_of
 from pointtally.grids import divided_grid, grid_within, leading, meet
+from pointtally.neighbours import left_by, sums_table
 from pointtally.pieces import led_rows, made_rows
 from pointtally.searching import whole_point
 
@@ -76,19 +77,26 @@ def _told_children(piece, is_kept):
             ahead = [*others, *ways_ahead(lowers, i, 1), *ways_ahead(uppers, j, -1)]
             # Without rests the rows hold wherever they do with some, so that all ways may fail at once.
             if not is_kept or has_fractions(m, (*ahead, form_between(lowers[i], uppers[j]))):
-                for one in lows:
-                    for other in highs[j]:
-                        told.append(_child(room, front, ahead, (one, other)))
-    return [child for child in told if child is not None and (not is_kept or has_fractions(m, child[0][2]))]
+                told += [_child(room, front, ahead, ways) for ways in _meeting_ways(lows, highs[j])]
+    return [child for child in told if not is_kept or has_fractions(m, child[0][2])]
+
+
+def _meeting_ways(lows, highs):
+    """Return the pairs of a way of lows and one of highs whose grids meet, in sequence."""
+    if len(lows) <= 1 and len(highs) <= 1:
+        return [(one, other) for one in lows for other in highs if meet(one[1], other[1]) is not None]
+    # The grids of all lows have one table, and so have those of all highs.
+    both = sums_table(lows[0][1][0], highs[0][1][0]) if lows and highs else ()
+    by_left = {}
+    for other in highs:
+        by_left.setdefault(left_by(both, other[1][1]), []).append(other)
+    return [(one, other) for one in lows for other in by_left.get(left_by(both, one[1][1]), [])]
 
 
 def _child(room, front, ahead, ways):
-    """Return the child whose bounds leave rests as ways tell, None if no whole letters do."""
+    """Return the child whose bounds leave rests as ways tell, on grids that meet."""
     (lower, one), (upper, other) = ways
-    inner = meet(one, other)
-    if inner is None:
-        return None
-    own = grid_within(front, inner)
+    own = grid_within(front, meet(one, other))
     return ((*room, made_rows(led_rows((*ahead, form_between(lower, upper)), front, own))), own)
 
 

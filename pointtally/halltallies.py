@@ -7,7 +7,7 @@ from pointtally.cornerterms import number_of, terms_of
 from pointtally.directions import direction, is_direction, uphill
 from pointtally.edges import edges
 from pointtally.errors import NotBounded, NotPaper
-from pointtally.forms import form_sum, form_times, letter_form, word_of
+from pointtally.forms import form_sum, form_times, form_value, letter_form, word_of
 from pointtally.grids import whole_grid
 from pointtally.halls import conditions, hall_at
 from pointtally.leaves import leaf_sum
@@ -80,17 +80,17 @@ def leaf_parts(hall, paper):
     return parts_by(hall, paper)
 
 
-def parts_by(hall, paper):
-    """Return the parts of what is known to be a paper."""
+def parts_by(hall, paper, p=None):
+    """Return the parts of what is known to be a paper; those alone whose rows hold at p if that is not None."""
     lam, entries = paper
     parts = []
     for basis, (word, tree) in zip(bases(hall), entries):
         if word == "tree":
             point, rows = _basis_rows(hall, basis)
-            for sign, rays in leaves(edges(hall, basis), tree):
-                if len(uphill(lam, rays)) % 2 == 1:
-                    sign = -sign
-                parts.append((rows, sign, rays, _leaf_steps(hall, point, rays)))
+            if p is None or all([form_value(row, p) >= 0 for row in rows]):
+                for sign, rays in leaves(edges(hall, basis), tree):
+                    turned_sign = sign if len(uphill(lam, rays)) % 2 == 0 else -sign
+                    parts.append((rows, turned_sign, rays, _leaf_steps(hall, point, rays)))
     return tuple(parts)
 
 

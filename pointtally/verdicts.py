@@ -1,7 +1,7 @@
 """What shows that a claim is so, or is not so: one check for each kind of claim."""
 
 from pointtally.alike import alike
-from pointtally.countpapers import tally_or_none
+from pointtally.countpapers import number_or_none, tally_or_none
 from pointtally.falling import is_empty_paper
 from pointtally.forms import are_numbers, is_number, product_sum, word_of
 from pointtally.formulas import formula_put_in, sizes
@@ -91,8 +91,7 @@ def check_finite(is_so, claim, paper):
 def _number_from(claim, weight, p, counting):
     """Return the number at p, or the sum of a weight, that a counting paper tells; None for what is none."""
     _, k, d, formula = claim[:4]
-    told = tally_or_none(k, d, formula, counting, weight)
-    return None if told is None else value(told, p)
+    return number_or_none(k, d, formula, counting, weight, p)
 
 
 def check_count(is_so, claim, paper):
@@ -119,7 +118,7 @@ def check_tells(is_so, claim, paper):
     """Tell whether a paper shows that a tally tells how many points a formula has, or where it does not."""
     _, k, d, formula, tally = claim
     if is_so:
-        told = tally_or_none(k, d, formula, paper[0], None) if is_tuple(paper, 1) else None
+        told = tally_or_none(k, d, formula, paper[0]) if is_tuple(paper, 1) else None
         return told is not None and alike(told, tally, k) is None
     if not is_tuple(paper, 3) or not are_numbers(paper[0], k) or not is_number(paper[1]):
         return False
