@@ -3,14 +3,14 @@ import unittest
 
 from pointtally.alike import alike
 from pointtally.counting import tally_of, weighted_of
-from pointtally.countpapers import counting_breach, counting_paper, tally_from
+from pointtally.countpapers import counting_breach, counting_paper, number_or_none, paper_and_number, tally_from
 from pointtally.errors import NotBounded, NotFormula, NotPaper
 from pointtally.falling import empty_paper
 from pointtally.formtexts import read_room
 from pointtally.listing import listed
 from pointtally.rays import has_ray
 from pointtally.sets import plain_pieces
-from pointtally.tallies import tally_breach
+from pointtally.tallies import tally_breach, value
 from tests.oracles import poly_at, random_poly, tally_at
 from tests.test_counting import walls
 from tests.test_halltallies import other_paper
@@ -45,6 +45,20 @@ class Papers(unittest.TestCase):
         self.assertIsNone(tally_breach(tally, 1))
         for n in range(-5, 30):
             self.assertEqual(tally_at(tally, (n,)), len([i for i in range(50) if 2 * i <= n or (i == 7 and n < 14)]))
+
+    def test_at_one_choice(self):
+        # What judge and answer tell of one choice is what the tally of the same paper tells there.
+        rng = random.Random(832)
+        for _ in range(25):
+            k, d = rng.randint(0, 2), rng.randint(0, 2)
+            formula, weight = sample(rng, k, d), random_poly(rng, k + d, 3)
+            paper = other_counting_paper(rng, k, d, formula)
+            tally, weighted = tally_from(k, d, formula, paper), tally_from(k, d, formula, paper, weight)
+            for p in [tuple(rng.choice((rng.randint(-9, 9), rng.randint(-FAR, FAR))) for _ in range(k)) for _ in range(4)]:
+                self.assertEqual(number_or_none(k, d, formula, paper, None, p), value(tally, p))
+                self.assertEqual(number_or_none(k, d, formula, paper, weight, p), value(weighted, p))
+                self.assertEqual(paper_and_number(k, d, formula, weight, p), (counting_paper(k, d, formula), value(weighted, p)))
+                self.assertIsNone(number_or_none(k, d, formula, (*paper, None), None, p))
 
     def test_no_pieces(self):
         for formula in (("or",), ("row", (-1, 0, 0)), ("and", ("row", (-1, 1, 1)), ("row", (0, -1, -1)))):
