@@ -55,36 +55,67 @@ def _products(left, exponents, known):
     return known[exponents]
 
 
-def _table_and_spread(front, rests, parts, by):
-    """Return (table of a lattice, spread by its classes) of parts with these rests on a grid, and 0 beside it."""
-    k = len(front[1])
+class Rests:
+    """Tells the classes that rests leave on the grids of gates, each once."""
+
+    def __init__(self, k):
+        self.k = k
+        self.fronts = {}
+        self.known = {}
+
+    def front(self, gates):
+        """Return the grid of gates, None if they hold nowhere."""
+        if gates not in self.fronts:
+            self.fronts[gates] = grid_of_gates(self.k, gates)
+        return self.fronts[gates]
+
+    def classes(self, front, rests):
+        """Return (table of a lattice, left, numbers): left are lists of what rests leave on its classes in a grid.
+
+        numbers are those of these classes among all, None if they are all.
+        """
+        key = (front, rests)
+        if key not in self.known:
+            self.known[key] = _told_classes(front, rests)
+        return self.known[key]
+
+
+def _told_classes(front, rests):
+    """Return what Rests tells of classes."""
     gates = gates_of_grid(front)
-    table = lattice_of(k, (*gates, *rests))
+    table = lattice_of(len(front[1]), (*gates, *rests))
     inner, _ = place_map(front, (table, front[1]))
     sizes = [row[i] for i, row in enumerate(inner)]
     left = [[number % n for number in _class_values(form_on(front, form), sizes)] for n, form in rests]
-    many = index_in(inner)
-    known, lines = {(0,) * len(rests): [1] * many}, {}
+    numbers = None
+    if gates:
+        numbers = [class_number(table, point_at(front, start)) for start in class_starts(inner)]
+    return (table, [[1] * index_in(inner), *left], numbers)
+
+
+def _table_and_spread(told, parts, by):
+    """Return (table of a lattice, spread by its classes) of parts on classes that Rests tells, and 0 beside them."""
+    table, (units, *left), numbers = told
+    known, lines = {(0,) * len(left): units}, {}
     for exponents, back, number in parts:
         products = _products(left, back, known)
         if exponents in lines:
             lines[exponents] = [a + number * b for a, b in zip(lines[exponents], products)]
         else:
             lines[exponents] = [number * b for b in products]
-    if gates:
-        numbers = [class_number(table, point_at(front, start)) for start in class_starts(inner)]
+    if numbers is not None:
         lines = {exponents: _scattered(line, numbers, index_in(table)) for exponents, line in lines.items()}
     return (table, short_spread((by, lines)))
 
 
-def tables_and_spreads(k, gates, steps, poly):
+def tables_and_spreads(k, gates, steps, poly, rests):
     """Return pairs (table of a lattice, spread by its classes) that add up to a term without rows."""
-    front = grid_of_gates(k, gates)
+    front = rests.front(gates)
     steps, poly = normal(k, (steps, poly))
     if front is None or len(poly) == 0:
         return []
     groups, by = _power_parts(k, steps, poly)
-    return [_table_and_spread(front, rests, parts, by) for rests, parts in groups.items()]
+    return [_table_and_spread(rests.classes(front, own), parts, by) for own, parts in groups.items()]
 
 
 def _scattered(line, numbers, size):
@@ -101,7 +132,8 @@ def short_spread(spread):
     kept = {exponents: line for exponents, line in lines.items() if any(line)}
     part = by
     for line in kept.values():
-        part = common_part([part, *line])
+        if part > 1:
+            part = common_part([part, *line])
     if part > 1:
         kept = {exponents: [entry // part for entry in line] for exponents, line in kept.items()}
     return (by // part, kept)
@@ -157,19 +189,10 @@ def settled_spreads(lattices, parts):
 
 def told_terms(k, terms):
     """Return (lattices, for each term pairs (number of a lattice, spread)) of terms, whatever their rows are."""
-    told = [tables_and_spreads(k, gates, steps, poly) for _, gates, steps, poly in terms]
+    rests = Rests(k)
+    told = [tables_and_spreads(k, gates, steps, poly, rests) for _, gates, steps, poly in terms]
     lattices = Lattices(k, [table for parts in told for table, _ in parts])
     return (lattices, [[(lattices.places[table], spread) for table, spread in parts] for parts in told])
-
-
-def joined_spreads(told):
-    """Return the settled spreads that settled ones add up to."""
-    found = {}
-    for spreads in told:
-        for i, spread in spreads.items():
-            found[i] = spread_sum(found[i], spread) if i in found else spread
-    kept = {i: short_spread(found[i]) for i in sorted(found)}
-    return {i: spread for i, spread in kept.items() if spread[1]}
 
 
 class ClassSum:

@@ -3,7 +3,7 @@
 from math import lcm
 
 from pointtally.cells import ALWAYS, NEVER, cut, is_beyond, opposite, quarter_cells, side_of
-from pointtally.classpolys import ClassSum, joined_spreads, settled_spreads, told_terms
+from pointtally.classpolys import ClassSum, settled_spreads, short_spread, told_terms
 
 
 def _packed(numbers, width):
@@ -16,29 +16,56 @@ def _packed(numbers, width):
     return numbers[0] if numbers else 0
 
 
-def packed_spreads(lattices, told):
-    """Return for each of some settled spreads a dict of integers by lattices: sums are 0 exactly if theirs are 0."""
-    sizes, great, exponents = {}, {}, {}
-    for spreads in told:
-        for i, (by, lines) in spreads.items():
-            sizes[i] = lcm(sizes.get(i, 1), by)
-            known = exponents.setdefault(i, {})
-            for at in lines:
-                known[at] = True
-    for spreads in told:
-        for i, (by, lines) in spreads.items():
-            top = max([abs(entry) for line in list(lines.values()) for entry in line])
-            great[i] = great.get(i, 0) + top * (sizes[i] // by)
-    packed = []
-    for spreads in told:
+def _unpacked(number, width, count):
+    """Return the list of the count numbers that one integer has, each in so many bits."""
+    if count == 1:
+        return [number]
+    half = count // 2
+    bits = width * half
+    low = number & ((1 << bits) - 1)
+    if low >> (bits - 1) == 1:
+        low -= 1 << bits
+    return _unpacked(low, width, half) + _unpacked((number - low) >> bits, width, count - half)
+
+
+class Packing:
+    """Tells settled spreads as dicts of integers by lattices: sums of these are 0 exactly if theirs are 0."""
+
+    def __init__(self, lattices, told):
+        self.lattices = lattices
+        self.sizes, self.exponents = {}, {}
+        for spreads in told:
+            for i, (by, lines) in spreads.items():
+                self.sizes[i] = lcm(self.sizes.get(i, 1), by)
+                known = self.exponents.setdefault(i, {})
+                for at in lines:
+                    known[at] = True
+        great = {}
+        for spreads in told:
+            for i, (by, lines) in spreads.items():
+                top = max([abs(entry) for line in list(lines.values()) for entry in line])
+                great[i] = great.get(i, 0) + top * (self.sizes[i] // by)
+        self.widths = {i: number.bit_length() + 2 for i, number in great.items()}
+
+    def packed(self, spreads):
+        """Return the dict of some spreads."""
         own = {}
         for i, (by, lines) in spreads.items():
-            none, numbers = [0] * lattices.sizes[i], []
-            for at in exponents[i]:
-                numbers += [entry * (sizes[i] // by) for entry in lines.get(at, none)]
-            own[i] = _packed(numbers, great[i].bit_length() + 2)
-        packed.append(own)
-    return packed
+            none, numbers = [0] * self.lattices.sizes[i], []
+            for at in self.exponents[i]:
+                numbers += [entry * (self.sizes[i] // by) for entry in lines.get(at, none)]
+            own[i] = _packed(numbers, self.widths[i])
+        return own
+
+    def spreads(self, packed):
+        """Return the spreads of a dict."""
+        told = {}
+        for i in sorted(packed):
+            size = self.lattices.sizes[i]
+            numbers = _unpacked(packed[i], self.widths[i], size * len(self.exponents[i]))
+            lines = {at: numbers[j * size:(j + 1) * size] for j, at in enumerate(self.exponents[i])}
+            told[i] = short_spread((self.sizes[i], lines))
+        return told
 
 
 def packed_sum(one, other):
@@ -54,8 +81,8 @@ def packed_sum(one, other):
 class Cutting:
     """Goes through the cells of whole tuples, in each of which each term holds throughout or nowhere.
 
-    Terms under the same rows are one lot; what is left of the lots in a cell stands by the bits of the rows that are
-    still open: (packed sum of the lots, their numbers).
+    Terms under the same rows are one lot; what is left of the lots in a cell, packed, stands by the bits of the rows
+    that are still open.
     """
 
     def __init__(self, k, terms):
@@ -66,23 +93,21 @@ class Cutting:
                 rows.setdefault(row, len(rows))
         self.forms = list(rows)
         self.lattices, parts = told_terms(k, terms)
-        self.told = []
+        told = []
         for places in list(lots.values()):
-            self.told.append(settled_spreads(self.lattices, [part for i in places for part in parts[i]]))
+            told.append(settled_spreads(self.lattices, [part for i in places for part in parts[i]]))
+        self.packing = Packing(self.lattices, told)
         first = {}
-        for place, (packed, own) in enumerate(zip(packed_spreads(self.lattices, self.told), lots)):
+        for spreads, own in zip(told, lots):
             bits = 0
             for row in own:
                 bits |= 1 << rows[row]
-            self.put(first, bits, (packed, (place,)))
+            self.put(first, bits, self.packing.packed(spreads))
         self.waiting = [(signs, cell, first) for signs, cell in quarter_cells(k)[::-1]]
 
     def put(self, lots, bits, lot):
         """Take a lot in among others, by the bits of its open rows."""
-        if bits in lots:
-            old, places = lots[bits]
-            lot = (packed_sum(old, lot[0]), places + lot[1])
-        lots[bits] = lot
+        lots[bits] = packed_sum(lots[bits], lot) if bits in lots else lot
 
     def settled(self, cell, lots):
         """Return the lots without rows that hold in a cell, and without those that hold nowhere or add up to 0."""
@@ -99,7 +124,7 @@ class Cutting:
         for bits, lot in lots.items():
             if bits & never == 0:
                 self.put(told, bits & ~always, lot)
-        return {bits: lot for bits, lot in told.items() if lot[0]}
+        return {bits: lot for bits, lot in told.items() if lot}
 
     def open_row(self, lots):
         """Return the place of the row that is open in most lots."""
@@ -111,10 +136,6 @@ class Cutting:
                 bits -= 1 << top
         return counts.index(max(counts))
 
-    def class_sum(self, places):
-        """Return the class sum of some lots."""
-        return ClassSum(self.lattices, joined_spreads([self.told[place] for place in places]))
-
     def next_cell(self, most=None):
         """Return (signs, cell, class sum of the terms there) of the next cell where that is not 0 by its writing.
 
@@ -125,7 +146,7 @@ class Cutting:
             is_far = most is not None and is_beyond(signs, cell, most)
             told = {} if is_far else self.settled(cell, lots)
             if len(told) == 1 and 0 in told:
-                return (signs, cell, self.class_sum(told[0][1]))
+                return (signs, cell, ClassSum(self.lattices, self.packing.spreads(told[0])))
             if told:
                 row = self.forms[self.open_row(told)]
                 for side in (opposite(row), row):

@@ -99,6 +99,8 @@ def common_part(numbers):
     part = 0
     for number in numbers:
         part = gcd(part, number)
+        if part == 1:
+            return 1
     return part
 
 
