@@ -96,11 +96,14 @@ def _one_writing(table, s):
 
 def bezout(a, b):
     """Return (g, x, y): g is the greatest common part of a and b from 0 on, and g = x * a + y * b."""
-    one, other = (abs(a), int(a > 0) - int(a < 0), 0), (abs(b), 0, int(b > 0) - int(b < 0))
-    while other[0] != 0:
-        times = one[0] // other[0]
-        one, other = other, form_sum(one, form_times(other, -times))
-    return one
+    x, y, next_x, next_y = int(a > 0) - int(a < 0), 0, 0, int(b > 0) - int(b < 0)
+    a, b = abs(a), abs(b)
+    while b != 0:
+        times = a // b
+        a, b = b, a - times * b
+        x, next_x = next_x, x - times * next_x
+        y, next_y = next_y, y - times * next_y
+    return (a, x, y)
 
 
 def _take_in(columns, vector, size):
@@ -155,34 +158,51 @@ def place_map(grid, inner):
     return (turned(columns, m), start)
 
 
-def _filled(form, parts, start, rest):
-    """Return the least entries from 0 on, from number start on, with which rest and their parts are divisible.
+class Divisor:
+    """Tells at which points a number divides a form.
 
-    parts[j] is the greatest common part of the divisor and the coefficients from number j on, so that
-    entry j can be chosen without a look at those behind it.
+    parts[j] is the greatest common part of the number and the coefficients from number j on, so that entry j can be
+    chosen, out of so many as steps[j] tells, without a look at those behind it.
     """
-    entries = []
-    for j in range(start, len(form) - 1):
-        steps = parts[j + 1] // parts[j]
-        inverse = bezout(form[j + 1] // parts[j], steps)[1]
-        entries.append((-(rest // parts[j]) * inverse) % steps)
-        rest = rest + form[j + 1] * entries[-1]
-    return entries
+
+    def __init__(self, n, form):
+        self.heads = form[1:]
+        self.parts = [n]
+        for entry in form[:0:-1]:
+            self.parts.append(gcd(self.parts[-1], entry))
+        self.parts = self.parts[::-1]
+        self.steps, self.inverses = [], []
+        for j, head in enumerate(self.heads):
+            step = self.parts[j + 1] // self.parts[j]
+            self.steps.append(step)
+            self.inverses.append(bezout(head // self.parts[j], step)[1] if step > 1 else 0)
+
+    def filled(self, start, rest):
+        """Return the least entries from 0 on, from number start on, with which rest and their parts are divisible."""
+        entries = []
+        for j in range(start, len(self.heads)):
+            entry = 0
+            if self.steps[j] > 1:
+                entry = -(rest // self.parts[j]) * self.inverses[j] % self.steps[j]
+                rest = rest + self.heads[j] * entry
+            entries.append(entry)
+        return entries
 
 
 def divided_grid(m, n, form):
     """Return the grid of all points at which n divides the form's value, None if there are none."""
-    parts = [n]
-    for entry in form[:0:-1]:
-        parts.append(gcd(parts[-1], entry))
-    parts = parts[::-1]
-    if form[0] % parts[0] != 0:
+    divisor = Divisor(n, form)
+    if form[0] % divisor.parts[0] != 0:
         return None
     columns = []
-    for i in range(m):
-        lead = parts[i + 1] // parts[i]
-        columns.append([0] * i + [lead] + _filled(form, parts, i + 1, form[i + 1] * lead))
-    return _one_writing(turned(columns, m), _filled(form, parts, 0, form[0]))
+    for i, step in enumerate(divisor.steps):
+        columns.append([0] * i + [step] + divisor.filled(i + 1, form[i + 1] * step))
+    return _one_writing(turned(columns, m), divisor.filled(0, form[0]))
+
+
+def _long_rows(grid):
+    """Return how many rows of a grid have more than 1 on the diagonal; all other rows are unit rows."""
+    return len([i for i, row in enumerate(grid[0]) if row[i] > 1])
 
 
 def meet(one, other):
@@ -190,24 +210,25 @@ def meet(one, other):
     m = len(one[1])
     if len(other[1]) != m:
         raise NotFit()
-    table, s = other
-    if table == one[0]:
-        return one if s == one[1] else None
-    forms, places = list(grid_forms(one)), []
-    for i, row in enumerate(table):
-        # What is left of entry i for the place number i: it must be divisible by the diagonal entry.
-        left = form_plus(forms[i], -s[i])
-        for entry, place in zip(row, places):
-            if entry != 0:
-                left = form_sum(left, form_times(place, -entry))
+    if other[0] == one[0]:
+        return one if other[1] == one[1] else None
+    if _long_rows(other) > _long_rows(one):
+        one, other = other, one
+    forms, places = grid_forms(one), {}
+    for i, row in enumerate(other[0]):
         if row[i] > 1:
+            # What is left of entry i for the place number i: it must be divisible by the diagonal entry.
+            left = form_plus(forms[i], -other[1][i])
+            for j, entry in enumerate(row[:i]):
+                if entry != 0:
+                    left = form_sum(left, form_times(places.get(j, forms[j]), -entry))
             inner = divided_grid(m, row[i], left)
             if inner is None:
                 return None
-            forms = [form_on(inner, form) for form in forms]
-            places = [form_on(inner, place) for place in places]
-            left = tuple([entry // row[i] for entry in form_on(inner, left)])
-        places.append(left)
+            letters = grid_forms(inner)
+            forms = [put_in(form, letters, m) for form in forms]
+            places = {j: put_in(place, letters, m) for j, place in places.items()}
+            places[i] = tuple([entry // row[i] for entry in put_in(left, letters, m)])
     return _grid_by(forms)
 
 
