@@ -63,7 +63,7 @@ class Rests:
         self.fronts = {}
         self.known = {}
 
-    def front(self, gates):
+    def front_of(self, gates):
         """Return the grid of gates, None if they hold nowhere."""
         if gates not in self.fronts:
             self.fronts[gates] = grid_of_gates(self.k, gates)
@@ -110,7 +110,7 @@ def _table_and_spread(told, parts, by):
 
 def tables_and_spreads(k, gates, steps, poly, rests):
     """Return pairs (table of a lattice, spread by its classes) that add up to a term without rows."""
-    front = rests.front(gates)
+    front = rests.front_of(gates)
     steps, poly = normal(k, (steps, poly))
     if front is None or len(poly) == 0:
         return []
