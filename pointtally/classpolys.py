@@ -9,13 +9,15 @@ from math import lcm
 from pointtally.forms import common_part, form_value, put_in
 from pointtally.grids import form_on, place_map, point_at
 from pointtally.lattices import Lattices, class_number, class_starts, index_in, lattice_of
-from pointtally.polys import form_lot, lot_of, put_lots
+from pointtally.polys import form_lot, lot_of, lots_sum, put_lots
 from pointtally.steppolys import normal
 from pointtally.terms import gates_of_grid, grid_of_gates
 
+MOST_KEPT = 10 ** 6
+
 
 def _power_parts(k, steps, poly):
-    """Return ({rests: parts}, by): parts are triples (exponents of p, exponents of what the rests leave, number).
+    """Return {rests: lot} of a step polynomial, lots by (exponents of p, exponents of what the rests leave).
 
     The steps are normal. A step is its form less what it leaves by its n, divided by n. Products of the same rests
     stand together.
@@ -33,8 +35,8 @@ def _power_parts(k, steps, poly):
     for exponents, number in terms.items():
         used = [i for i, exponent in enumerate(exponents[k:]) if exponent > 0]
         own = tuple([exponents[k + i] for i in used])
-        groups.setdefault(tuple([rests[i] for i in used]), []).append((exponents[:k], own, number))
-    return (groups, by)
+        groups.setdefault(tuple([rests[i] for i in used]), {})[(exponents[:k], own)] = number
+    return {own: (group, by) for own, group in groups.items()}
 
 
 def _class_values(form, sizes):
@@ -56,12 +58,14 @@ def _products(left, exponents, known):
 
 
 class Rests:
-    """Tells the classes that rests leave on the grids of gates, each once."""
+    """Tells the classes that rests leave on the grids of gates, small ones each once."""
 
     def __init__(self, k):
         self.k = k
         self.fronts = {}
+        self.tables = {}
         self.known = {}
+        self.left = MOST_KEPT
 
     def front_of(self, gates):
         """Return the grid of gates, None if they hold nowhere."""
@@ -69,35 +73,46 @@ class Rests:
             self.fronts[gates] = grid_of_gates(self.k, gates)
         return self.fronts[gates]
 
+    def table(self, front, rests):
+        """Return the table of the lattice by which rests are alike on the grid of gates, and beside it."""
+        key = (front, rests)
+        if key not in self.tables:
+            self.tables[key] = lattice_of(self.k, (*gates_of_grid(front), *rests))
+        return self.tables[key]
+
     def classes(self, front, rests):
         """Return (table of a lattice, left, numbers): left are lists of what rests leave on its classes in a grid.
 
-        numbers are those of these classes among all, None if they are all.
+        The first list is of 1; numbers are those of these classes among all, None if they are all.
         """
         key = (front, rests)
-        if key not in self.known:
-            self.known[key] = _told_classes(front, rests)
-        return self.known[key]
+        if key in self.known:
+            return self.known[key]
+        told = _told_classes(front, rests, self.table(front, rests))
+        size = len(told[1]) * len(told[1][0])
+        if size <= self.left:
+            self.left -= size
+            self.known[key] = told
+        return told
 
 
-def _told_classes(front, rests):
+def _told_classes(front, rests, table):
     """Return what Rests tells of classes."""
-    gates = gates_of_grid(front)
-    table = lattice_of(len(front[1]), (*gates, *rests))
     inner, _ = place_map(front, (table, front[1]))
     sizes = [row[i] for i, row in enumerate(inner)]
     left = [[number % n for number in _class_values(form_on(front, form), sizes)] for n, form in rests]
     numbers = None
-    if gates:
+    if gates_of_grid(front):
         numbers = [class_number(table, point_at(front, start)) for start in class_starts(inner)]
     return (table, [[1] * index_in(inner), *left], numbers)
 
 
-def _table_and_spread(told, parts, by):
-    """Return (table of a lattice, spread by its classes) of parts on classes that Rests tells, and 0 beside them."""
+def _table_and_spread(told, lot):
+    """Return (table of a lattice, spread by its classes) of a lot on classes that Rests tells, and 0 beside them."""
     table, (units, *left), numbers = told
+    terms, by = lot
     known, lines = {(0,) * len(left): units}, {}
-    for exponents, back, number in parts:
+    for (exponents, back), number in terms.items():
         products = _products(left, back, known)
         if exponents in lines:
             lines[exponents] = [a + number * b for a, b in zip(lines[exponents], products)]
@@ -108,14 +123,14 @@ def _table_and_spread(told, parts, by):
     return (table, short_spread((by, lines)))
 
 
-def tables_and_spreads(k, gates, steps, poly, rests):
-    """Return pairs (table of a lattice, spread by its classes) that add up to a term without rows."""
+def _groups_of(k, term, rests):
+    """Return pairs (grid of gates and rests, lot) that add up to a term, whatever its rows are."""
+    _, gates, steps, poly = term
     front = rests.front_of(gates)
     steps, poly = normal(k, (steps, poly))
     if front is None or len(poly) == 0:
         return []
-    groups, by = _power_parts(k, steps, poly)
-    return [_table_and_spread(rests.classes(front, own), parts, by) for own, parts in groups.items()]
+    return [((front, own), lot) for own, lot in _power_parts(k, steps, poly).items()]
 
 
 def _scattered(line, numbers, size):
@@ -167,14 +182,20 @@ def _less_means(spread, led, size):
     return (short_spread((by * ratio, rest)), short_spread((by * ratio, means)))
 
 
-def settled_spreads(lattices, parts):
-    """Return by their numbers the spreads by lattices that parts, pairs (number, spread), add up to, in one writing.
+def gathered_spreads(parts):
+    """Return by their numbers the sums of spreads, given as pairs (number, spread)."""
+    waiting = {}
+    for i, spread in parts:
+        waiting[i] = spread_sum(waiting[i], spread) if i in waiting else spread
+    return waiting
+
+
+def settled_spreads(lattices, spreads):
+    """Return by their numbers the spreads by lattices that spreads add up to, in one writing.
 
     What a spread has in common with the lattices above goes up to these: sums are 0 exactly if nothing is left.
     """
-    waiting, found = {}, {}
-    for i, spread in parts:
-        waiting[i] = spread_sum(waiting[i], spread) if i in waiting else spread
+    waiting, found = {i: spreads[i] for i in spreads}, {}
     for i in range(len(lattices.tables)):
         if i in waiting:
             own = short_spread(waiting[i])
@@ -187,12 +208,27 @@ def settled_spreads(lattices, parts):
     return found
 
 
-def told_terms(k, terms):
-    """Return (lattices, for each term pairs (number of a lattice, spread)) of terms, whatever their rows are."""
-    rests = Rests(k)
-    told = [tables_and_spreads(k, gates, steps, poly, rests) for _, gates, steps, poly in terms]
-    lattices = Lattices(k, [table for parts in told for table, _ in parts])
-    return (lattices, [[(lattices.places[table], spread) for table, spread in parts] for parts in told])
+class ToldTerms:
+    """Terms, whatever their rows are, as what hangs on classes by lattices."""
+
+    def __init__(self, k, terms):
+        self.source = Rests(k)
+        self.groups = [_groups_of(k, term, self.source) for term in terms]
+        tables = [self.source.table(front, own) for told in self.groups for (front, own), _ in told]
+        self.lattices = Lattices(k, tables)
+
+    def settled(self, places):
+        """Return the settled spreads that the terms in some places add up to."""
+        found = {}
+        for place in places:
+            for key, lot in self.groups[place]:
+                found.setdefault(key, []).append(lot)
+        waiting = {}
+        for (front, own), lots in found.items():
+            table, spread = _table_and_spread(self.source.classes(front, own), lots_sum(lots))
+            i = self.lattices.places[table]
+            waiting[i] = spread_sum(waiting[i], spread) if i in waiting else spread
+        return settled_spreads(self.lattices, waiting)
 
 
 class ClassSum:
@@ -229,7 +265,7 @@ class ClassSum:
             told.append(_led_spread(table, spread, forms, n))
         lattices = Lattices(n, [table for table, _ in told])
         parts = [(lattices.places[table], spread) for table, spread in told]
-        return ClassSum(lattices, settled_spreads(lattices, parts))
+        return ClassSum(lattices, settled_spreads(lattices, gathered_spreads(parts)))
 
 
 def power_product(p, exponents):
@@ -261,5 +297,5 @@ def _led_spread(table, spread, forms, n):
 
 def class_sum(k, terms):
     """Return the function that terms add up to, whatever their rows are."""
-    lattices, parts = told_terms(k, terms)
-    return ClassSum(lattices, settled_spreads(lattices, [part for own in parts for part in own]))
+    told = ToldTerms(k, terms)
+    return ClassSum(told.lattices, told.settled(list(range(len(terms)))))

@@ -3,7 +3,7 @@
 from math import lcm
 
 from pointtally.cells import ALWAYS, NEVER, cut, is_beyond, opposite, quarter_cells, side_of
-from pointtally.classpolys import ClassSum, settled_spreads, short_spread, told_terms
+from pointtally.classpolys import ClassSum, ToldTerms, short_spread
 
 
 def _packed(numbers, width):
@@ -92,10 +92,9 @@ class Cutting:
             for row in term[0]:
                 rows.setdefault(row, len(rows))
         self.forms = list(rows)
-        self.lattices, parts = told_terms(k, terms)
-        told = []
-        for places in list(lots.values()):
-            told.append(settled_spreads(self.lattices, [part for i in places for part in parts[i]]))
+        classes = ToldTerms(k, terms)
+        told = [classes.settled(places) for places in list(lots.values())]
+        self.lattices = classes.lattices
         self.packing = Packing(self.lattices, told)
         first = {}
         for spreads, own in zip(told, lots):
