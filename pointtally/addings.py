@@ -106,7 +106,6 @@ def follows(m, rows, row):
 def _bare_tableau(m, rows, f):
     """Return a tableau that tells what is so, but no points and no rays."""
     tableau = Tableau(m, rows, f)
-    tableau.hold_letters()
     tableau.drop_letters()
     return tableau
 

@@ -24,7 +24,6 @@ def lowered_rows(rows):
 def span(m, rows, form):
     """Return the least and the greatest value of a form as pairs (a, b), None where there is none; None if empty."""
     tableau = Tableau(m, rows, form)
-    tableau.hold_letters()
     tableau.drop_letters()
     if tableau.settle() >= 0:
         return None

@@ -40,7 +40,12 @@ class Tableau:
         """Return what a line becomes when the entry at a place is told by lead."""
         sign = 1 if lead[place] > 0 else -1
         pivot, factor = sign * lead[place], sign * line[place]
-        told = [(pivot * a - factor * b) // self.by for a, b in zip(line, lead)]
+        if factor == 0:
+            return line if pivot == self.by else [pivot * a // self.by for a in line]
+        if self.by == 1:
+            told = [pivot * a - factor * b for a, b in zip(line, lead)]
+        else:
+            told = [(pivot * a - factor * b) // self.by for a, b in zip(line, lead)]
         told[place] = factor
         return told
 
@@ -64,11 +69,25 @@ class Tableau:
             if places:
                 self.turn(places[0], j)
 
+    def row_with(self, place):
+        """Return the number of the held row that has the least entry other than 0 at a place, -1 if none has one."""
+        found, least = -1, 0
+        for i, line in enumerate(self.lines):
+            size = abs(line[place])
+            if size > 0 and (found < 0 or size < least):
+                found, least = i, size
+        return found
+
     def drop_letters(self):
-        """Leave out what tells held letters: turns are faster without, but point and ray are lost."""
-        places = [i for i, entry in enumerate(self.held) if self.is_row(entry)]
-        self.lines = [self.lines[i] for i in places]
-        self.held = [self.held[i] for i in places]
+        """Hold each letter that some row holds, and leave it out: turns are faster without, but points are lost."""
+        for j in range(self.m):
+            i = self.row_with(j + 1)
+            if i >= 0:
+                lead = self.lines.pop(i)
+                self.free[j] = self.held.pop(i)
+                self.aim = self.turned_line(self.aim, lead, j + 1)
+                self.lines = [self.turned_line(line, lead, j + 1) for line in self.lines]
+                self.by = abs(lead[j + 1])
 
     def aim_below(self, row):
         """Take the value of a row, which is held or free, with its sign turned as the form."""
@@ -102,8 +121,11 @@ class Tableau:
 
     def low_line(self):
         """Return the place of the first row whose value is below 0, -1 if there is none."""
-        held = self.held
-        return _least_of(held, [i for i, line in enumerate(self.lines) if self.is_row(held[i]) and line[0] < 0])
+        found = -1
+        for i, line in enumerate(self.lines):
+            if line[0] < 0 and self.is_row(self.held[i]) and (found < 0 or self.held[i] < self.held[found]):
+                found = i
+        return found
 
     def settle(self):
         """Turn until no row is below 0; return -1, or the place of a row that stays below 0."""
